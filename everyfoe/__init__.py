@@ -1,0 +1,1 @@
+"""Everyfoe: what a plan gets and can hold against all foes."""
