@@ -47,7 +47,7 @@ class BadPaper(FoeError):
 
 
 class Untold(FoeError):
-    """A text leaves open what happens on this board for these words."""
+    """A text does not tell what happens on this board for these words."""
 
     def __init__(self, board, words):
         self.board = board

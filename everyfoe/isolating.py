@@ -7,7 +7,7 @@ has this root alone.
 
 from math import gcd
 
-from everyfoe.exact import lowest, middle, order
+from everyfoe.exact import lowest, order
 from everyfoe.rows import (
     common,
     greatest_item,
@@ -16,7 +16,7 @@ from everyfoe.rows import (
     slope,
     value_at,
 )
-from everyfoe.stretches import changes, halves, on_unit, unit_spread
+from everyfoe.stretches import simple_parts
 
 
 def single(row):
@@ -27,10 +27,18 @@ def single(row):
     return row_divided(whole, common(whole, slope(whole)))
 
 
+def value_modulo(row, place, number):
+    """The value of the row at an integer, up to a multiple of number."""
+    total = 0
+    for item in row[::-1]:
+        total = (total * place + item) % number
+    return total
+
+
 def roots_modulo(row, number):
     """The integers from 0 below number at which the row is divisible by it."""
-    small = tuple([item % number for item in row])
-    return [k for k in range(number) if value_at(small, k, 1) % number == 0]
+    small = [item % number for item in row]
+    return [k for k in range(number) if value_modulo(small, k, number) == 0]
 
 
 def inverse(number, modulus):
@@ -53,7 +61,7 @@ def good_modulus(row):
     while True:
         if gcd(row[-1], number) == 1:
             found = roots_modulo(row, number)
-            if all([gcd(value_at(steep, k, 1), number) == 1 for k in found]):
+            if all([gcd(value_modulo(steep, k, number), number) == 1 for k in found]):
                 return number, found
         number = number + 2
 
@@ -62,11 +70,11 @@ def refined(row, root, number, limit):
     """A pair: the root modulo a number above limit that is the given one
     modulo number, and the greater number. Each step squares the number."""
     steep = slope(row)
-    back = inverse(value_at(steep, root, 1), number)
+    back = inverse(value_modulo(steep, root, number), number)
     while number <= limit:
         number = number * number
-        root = (root - value_at(row, root, 1) * back) % number
-        back = back * (2 - value_at(steep, root, 1) * back) % number
+        root = (root - value_modulo(row, root, number) * back) % number
+        back = back * (2 - value_modulo(steep, root, number) * back) % number
     return root, number
 
 
@@ -90,9 +98,17 @@ def ratio_roots(row):
         if 2 * top > modulus:
             top = top - modulus
         ratio = lowest(top, row[-1])
-        if value_at(row, ratio[0], ratio[1]) == 0:
+        if is_ratio_root(row, ratio):
             found.append(ratio)
     return found
+
+
+def is_ratio_root(row, ratio):
+    """Whether the ratio is a root of a row whose first item is not 0. The top
+    of such a root divides the first item: mostly that tells it at once."""
+    if ratio[0] == 0 or row[0] % ratio[0] != 0:
+        return False
+    return value_at(row, ratio[0], ratio[1]) == 0
 
 
 def ascending(ratios):
@@ -109,19 +125,8 @@ def ascending(ratios):
 def gap_spots(row, low, high):
     """The spots strictly between two ratios, in ascending order. The row has
     each root once, and none of them is a ratio."""
-    found = []
-    waiting = [(on_unit(row, low, high), low, high)]
-    while waiting:
-        items, start, end = waiting.pop()
-        many = changes(unit_spread(items))
-        if many == 1:
-            found.append((row, start, end))
-        elif many > 1:
-            left, right = halves(items)
-            cut = middle(start, end)
-            waiting.append((right, cut, end))
-            waiting.append((left, start, cut))
-    return found
+    parts = simple_parts(row, low, high)
+    return [(row, start, end) for start, end, many in parts if many == 1]
 
 
 def bounded(row, low, high):
@@ -138,8 +143,9 @@ def root_spots(row, low, high):
     """The spots of all roots strictly between two ratios, in ascending order.
     The row is not empty."""
     rest = single(row)
+    ratios = ascending(ratio_roots(rest))
     inner = []
-    for ratio in ascending(ratio_roots(rest)):
+    for ratio in ratios:
         rest = row_divided(rest, (-ratio[0], ratio[1]))
         if order(low, ratio) < 0 and order(ratio, high) < 0:
             inner.append(ratio)

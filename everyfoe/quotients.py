@@ -103,11 +103,6 @@ class Quotient:
         return lowest(above[0] * below[1], above[1] * below[0])
 
 
-def constant(ratio):
-    """The quotient that is this ratio, a pair, everywhere."""
-    return Quotient(trimmed([ratio[0]]), (ratio[1],))
-
-
 def is_constant(quotient):
     return len(quotient.top) < 2 and len(quotient.bottom) == 1
 

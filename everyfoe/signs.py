@@ -2,9 +2,9 @@
 
 from everyfoe.borders import between, check_stretch, roots_within, sign_at
 from everyfoe.errors import BadNumber
-from everyfoe.exact import ONE, ZERO, as_ratio, is_ratio, lowest, middle, order
+from everyfoe.exact import ONE, ZERO, as_ratio, is_ratio, lowest, order
 from everyfoe.rows import is_row
-from everyfoe.stretches import changes, halves, on_unit, unit_spread
+from everyfoe.stretches import on_unit, sign_changes, simple_parts, unit_spread
 
 
 class OneSign:
@@ -34,9 +34,19 @@ def sign_within(row, low, high):
     check_stretch(low, high)
     if len(row) == 0:
         return 0
-    if roots_within(row, low, high):
+    if has_root(row, low, high):
         return None
     return sign_at(row, between(low, high))
+
+
+def has_root(row, low, high):
+    """Whether the row, which is not empty, has a root strictly between two
+    ends. Mostly the spread tells it at once."""
+    if is_ratio(low) and is_ratio(high):
+        many = sign_changes(row, as_ratio(low), as_ratio(high))
+        if many < 2:
+            return many == 1
+    return len(roots_within(row, low, high)) > 0
 
 
 def one_sign(row, low, high):
@@ -50,28 +60,7 @@ def one_sign(row, low, high):
         return None
     if sign == 0:
         return OneSign(0, (start, end))
-    return OneSign(sign, cuts_of(row, start, end))
-
-
-def cuts_of(row, low, high):
-    """Cuts of a row without a root strictly between two ratios.
-
-    Each part is halved until its spread has one sign. This ends: a spread has
-    one sign where no root of the row, complex ones counted, is in the circle
-    around the part.
-    """
-    cuts = [low]
-    waiting = [(on_unit(row, low, high), low, high)]
-    while waiting:
-        items, start, end = waiting.pop()
-        if changes(unit_spread(items)) == 0:
-            cuts.append(end)
-        else:
-            left, right = halves(items)
-            cut = middle(start, end)
-            waiting.append((right, cut, end))
-            waiting.append((left, start, cut))
-    return cuts
+    return OneSign(sign, [start] + [part[1] for part in simple_parts(row, start, end)])
 
 
 def spread(row, low, high):

@@ -4,7 +4,7 @@ A row is moved to the unit stretch first: a list of integers whose polynomial
 on (0, 1) is the row on (low, high), up to a number above 0.
 """
 
-from everyfoe.exact import sign_of
+from everyfoe.exact import middle, sign_of
 
 
 def on_unit(row, low, high):
@@ -78,3 +78,27 @@ def sign_changes(row, low, high):
     The row has at most so many roots there, and one less by an even number:
     none if it is 0, exactly one if it is 1."""
     return changes(unit_spread(on_unit(row, low, high)))
+
+
+def simple_parts(row, low, high):
+    """The parts of (low, high), in ascending order, each halved until the sign
+    changes at most once along its spread: triples (low, high, changes).
+
+    This ends if the row has no root several times strictly between low and
+    high, and none where a part is halved: the sign changes at most once along
+    the spread of a part that is short against the distance of other roots,
+    complex ones counted.
+    """
+    found = []
+    waiting = [(on_unit(row, low, high), low, high)]
+    while waiting:
+        items, start, end = waiting.pop()
+        many = changes(unit_spread(items))
+        if many < 2:
+            found.append((start, end, many))
+        else:
+            left, right = halves(items)
+            cut = middle(start, end)
+            waiting.append((right, cut, end))
+            waiting.append((left, start, cut))
+    return found

@@ -44,6 +44,33 @@ def sign_of(number):
     return (number > 0) - (number < 0)
 
 
+def divided(one, other):
+    """What is left of one row after other is taken away as often as it goes."""
+    one = list(one)
+    while len(one) >= len(other):
+        factor = one[-1] / other[-1]
+        for k in range(len(other)):
+            one[len(one) - len(other) + k] -= factor * other[k]
+        one.pop()
+    while one and one[-1] == 0:
+        one.pop()
+    return one
+
+
+def root_count(row, low, high):
+    """How many roots a row has between two ratios that are no roots, told by
+    the changes of sign along Sturm's chain."""
+    chain = [[Fraction(item) for item in row], [Fraction(k * item) for k, item in enumerate(row)][1:]]
+    while chain[-1]:
+        chain.append([-item for item in divided(chain[-2], chain[-1])])
+    counts = []
+    for place in (low, high):
+        signs = [sign_of(value_of(part, place)) for part in chain[:-1]]
+        signs = [sign for sign in signs if sign]
+        counts.append(sum(one != other for one, other in zip(signs, signs[1:])))
+    return counts[0] - counts[1]
+
+
 class BorderCase(CheckCase):
     def check_border(self, border):
         """A Border that is returned: it changes its sign, and stands for no ratio."""
@@ -178,6 +205,32 @@ class RootsTest(BorderCase):
                 self.assertEqual(end, (round(number ** 0.5), 1))
             else:
                 self.check_square(end, number)
+
+    def test_random_rows(self):
+        chance = random.Random(7)
+        for _ in range(400):
+            size = chance.choice([2, 5, 100, 10 ** 12])
+            rows = [
+                tuple(chance.randrange(-size, size + 1) for _ in range(chance.randrange(1, 5))) + (chance.choice([1, 2, -3]),)
+                for _ in range(chance.randrange(1, 4))
+            ]
+            row = product(*rows, chance.choice(rows))
+            low, high = sorted(Fraction(chance.randrange(-99, 99), 7) for _ in range(2))
+            if low < high and value_of(row, low) and value_of(row, high):
+                found = roots_within(row, pair(low), pair(high))
+                self.assertEqual(len(found), root_count(row, low, high))
+                self.check_roots(row, found)
+
+    def check_roots(self, row, found):
+        for end in found:
+            self.assertEqual(sign_at(row, end), 0)
+            if isinstance(end, Border):
+                self.check_border(end)
+                self.assertEqual(root_count(end.row, fraction(end.low), fraction(end.high)), 1)
+            else:
+                self.check_ratio(end)
+        for one, other in zip(found, found[1:]):
+            self.assertEqual((compared(one, other), compared(other, one)), (-1, 1))
 
     def test_errors(self):
         for value in NO_ROWS + [()]:
