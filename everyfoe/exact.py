@@ -48,15 +48,6 @@ def minus(one, other):
     return lowest(one[0] * other[1] - other[0] * one[1], one[1] * other[1])
 
 
-def times(one, other):
-    return lowest(one[0] * other[0], one[1] * other[1])
-
-
-def over(one, other):
-    """One divided by other, which is not 0."""
-    return lowest(one[0] * other[1], one[1] * other[0])
-
-
 def sign_of(number):
     """The sign of an integer: 1, -1 or 0."""
     if number > 0:

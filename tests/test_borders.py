@@ -122,6 +122,8 @@ class BorderTest(BorderCase):
         for row, low, high in [
             ((1, 0, 1), 0, 2), ((-2, 0, 1), 2, 3), ((-2, 0, 1), -2, 2), ((-1, 1), 1, 2), ((-1, 1), 0, 1),
             (product((-1, 2), (-1, 2)), 0, 1), (product((-1, 3), (-2, 3), (-1, 2)), 0, 1), ((0, 1), 0, 1), ((0, 1), -1, 0),
+            (product((0, 1), (-1, 2)), 0, 1), (product((-1, 1), (-1, 2)), 0, 1), (product((0, 1), (-1, 1), (-1, 2)), 0, 1),
+            (product((0, 1), square(2)), 0, 2), (product((-2, 1), square(2)), 0, 2), (square(2), (3, 2), 2),
             (product((-1, 2), (-1, 2), (-1, 3)), 0, 1), (product((-2, 0, 1), (-3, 0, 1), (-3, 0, 1)), 1, 2),
         ]:
             self.check_error(BadNumber, ("row", row), Border, row, low, high)

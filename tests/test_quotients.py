@@ -101,6 +101,14 @@ class QuotientTest(CheckCase):
                 self.assertEqual((one.top, one.bottom), (other.top, other.bottom))
                 self.assertTrue(one == other)
 
+    def test_rows_that_have_nothing_in_common(self):
+        for number in [*range(-300, 0), *range(1, 300), 10 ** 40]:
+            for top, bottom in [((0, 1), (number, 1)), ((0, 1), (number, 0, 1)), ((number, 1), (0, 1, 1)), ((1, 0, 1), (1 + number, 0, 1))]:
+                found = Quotient(top, bottom)
+                if value_of(bottom, 0) and len(top) == 2 and top[0] == 0 and number > 0:
+                    self.assertEqual((found.top, found.bottom), (top, bottom))
+                self.check_lowest(found)
+
     def test_long_rows(self):
         chance = random.Random(2)
         shared = tuple(chance.randrange(1, 10 ** 40) for _ in range(20))

@@ -256,6 +256,9 @@ class SettledTest(WorldCase):
             self.check_error(TooLarge, ("digits", 6 * (many - 1) + 1, 4000), World(text).settled, ratio)
         ratio = (10 ** 666 - 1, 10 ** 666)
         self.assertEqual(World(text).settled(ratio).signals("b", "a", "x")[0][1], (ratio[0] ** 6, ratio[1] ** 6))
+        plain = World("mine a\nfoe x\nboard b\npay * * 0 0\nsignal * * u:e d:1-e\n")
+        self.assertEqual(plain.settled((1, 10 ** 3999)).signals("b", "a", "x")[0][1], (1, 10 ** 3999))
+        self.check_error(TooLarge, ("digits", 4001, 4000), plain.settled, (1, 10 ** 4000))
         ratio = (10 ** 667 - 1, 10 ** 667)
         self.check_error(TooLarge, ("digits", 4003, 4000), World(text).settled, ratio)
         self.assertEqual(World(PLAIN).settled(ratio).text, PLAIN)
@@ -273,6 +276,9 @@ class WorldOfTest(CheckCase):
         self.assertEqual(found.boards, ("b",))
         self.assertIs(found.plain, True)
         self.assertEqual(world_of(("a",), ["b"], (((0, 0),),)).text, "mine a\nfoe b\nboard b\npay a b 0 0\n")
+        found = world_of(list("abcd"), list("efgh"), [[(i, j) for j in range(4)] for i in range(4)])
+        self.assertEqual((found.mine, found.foe), (tuple("abcd"), tuple("efgh")))
+        self.assertEqual(found.pay("b", "d", "g"), ((3, 1), (2, 1)))
 
     def test_names(self):
         for value in [None, "ab", 1, {}, {"a": 1}, [], (), True]:
