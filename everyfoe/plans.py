@@ -23,12 +23,13 @@ class Plan:
         self.states = found.states
         self._moves = moves
         self._signals = {signal: True for signal in all_signals(world)}
-        self._goes = found.goes
         self._lines = lines_of_states(found)
         check_plays(world, found)
         start = found.start
         if start is None:
             start = ((self.states[0], Quotient((1,))),)
+        # Which lines count is asked before it is known how chances are told.
+        self._goes = found.goes
         self.lettered = self.has_letter(start, found.plays)
         self.start = told(start, self.lettered)
         self._plays = {at: told(found.plays[at], self.lettered) for at in found.plays}
