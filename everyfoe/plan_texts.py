@@ -22,7 +22,8 @@ class PlanText:
     start is the distribution of the line start, or None. plays tells for a
     state and a board the distribution of the last line that fits. goes has
     the lines go in order, each as the tuples of the states, boards, moves and
-    signals that it fits, and its distribution.
+    signals that it fits, its distribution, and its words for board, move and
+    signal.
     """
 
     def __init__(self, world, text, moves):
@@ -66,4 +67,4 @@ class PlanText:
     def read_go(self, words, line):
         fits = read_conditions(words, line, self.tables["go"])
         pairs = in_order(read_distribution(words, line, 5, self.states_told), self.states)
-        self.goes.append((*fits, pairs))
+        self.goes.append((*fits, pairs, tuple(words[2:5])))

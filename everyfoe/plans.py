@@ -33,7 +33,7 @@ class Plan:
         self.lettered = self.has_letter(start, found.plays)
         self.start = told(start, self.lettered)
         self._plays = {at: told(found.plays[at], self.lettered) for at in found.plays}
-        self._goes = [line[:4] + (told(line[4], self.lettered),) for line in found.goes]
+        self._goes = [(*line[:4], told(line[4], self.lettered), line[5]) for line in found.goes]
 
     def has_letter(self, start, plays):
         """Whether some chance that counts is not constant."""
@@ -86,6 +86,16 @@ class Plan:
         if k is None:
             return told(((state, Quotient((1,))),), self.lettered)
         return self._goes[k][4]
+
+    def lines_of(self, state):
+        """The lines go that count for the state somewhere, in their order:
+        pairs of the words for board, move and signal, and the distribution."""
+        counting = {}
+        for board in self.world.boards:
+            for move in self._moves:
+                for signal in self._signals:
+                    counting[self.line_for(state, board, move, signal)] = True
+        return [(self._goes[k][5], self._goes[k][4]) for k in self._lines[state] if k in counting]
 
     def settled(self, ratio):
         """The plan with e = ratio."""

@@ -128,6 +128,17 @@ def quotient_of(text):
     return polynomial(ratios)
 
 
+def multiples(quotient):
+    """The ratios by which the powers of a polynomial are multiplied."""
+    return [lowest(item, quotient.bottom[0]) for item in quotient.top]
+
+
+def text_digits(quotient):
+    """The greatest number of digits of an integer in the text of a
+    polynomial."""
+    return max([1] + [max(digits_of(top), digits_of(bottom)) for top, bottom in multiples(quotient)])
+
+
 def quotient_text(quotient):
     """The text of a polynomial."""
     if len(quotient.bottom) > 1:
@@ -135,8 +146,8 @@ def quotient_text(quotient):
     power = len(quotient.top) - 1
     if power > MOST_POWER:
         raise TooLarge("power", power, MOST_POWER)
-    ratios = [lowest(item, quotient.bottom[0]) for item in quotient.top]
-    many = max([1] + [max(digits_of(top), digits_of(bottom)) for top, bottom in ratios])
+    ratios = multiples(quotient)
+    many = text_digits(quotient)
     if many > MOST_DIGITS:
         raise TooLarge("digits", many, MOST_DIGITS)
     text = ""

@@ -1,0 +1,44 @@
+"""Patience: what a chain is worth if later rounds count less, as quotients in
+the letter x."""
+
+from everyfoe.amounts import negative
+from everyfoe.exact import ONE, ZERO
+from everyfoe.quotients import Quotient, polynomial
+from everyfoe.rows import common, primitive, row_divided, row_product
+from everyfoe.systems import answers
+
+IMPATIENCE = (1, -1)
+
+
+def patience_worths(start, rows, pays):
+    """The pairs of the patience worths from all places of a chain, and behind
+    them that from the start."""
+    many = len(rows)
+    lines = []
+    for k in range(many):
+        chances = {j: chance for j, chance in rows[k]}
+        line = [polynomial([ONE if j == k else ZERO, negative(chances.get(j, ZERO))]) for j in range(many)]
+        sides = [polynomial([pay, negative(pay)]) for pay in pays[k]]
+        lines.append(line + [Quotient(())] + sides)
+    last = [polynomial([negative(chance)]) for chance in start]
+    lines.append(last + [Quotient((1,)), Quotient(()), Quotient(())])
+    return [tuple(pair) for pair in answers(lines, many + 1, True)]
+
+
+def recurrence_of(worths):
+    """The shortest row that the pays behind these patience worths obey.
+
+    Without the factor 1 - x, a patience worth is the sum of the pays times
+    powers of x. Times a row it has only powers below a number if and only if
+    the row, read backwards from that number on, is obeyed. The least such row
+    is the shared bottom.
+    """
+    parts = [worth.over(Quotient(IMPATIENCE)) for worth in worths]
+    bottom = (1,)
+    for part in parts:
+        bottom = row_product(bottom, row_divided(part.bottom, common(bottom, part.bottom)))
+    most = len(bottom) - 1
+    for part in parts:
+        if part.top:
+            most = max(most, len(part.top) + len(bottom) - len(part.bottom))
+    return primitive(tuple([0] * (most + 1 - len(bottom)) + list(bottom[::-1])))
