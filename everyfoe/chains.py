@@ -5,7 +5,7 @@ without chances that are 0; start has for each place its chance to be the
 first one; pays has for each place the amounts that a round is worth there.
 """
 
-from everyfoe.amounts import added, negative, nothing, put, whole
+from everyfoe.amounts import added, negative, nothing, put, times, total, whole
 from everyfoe.exact import lowest, shared_bottom
 from everyfoe.systems import answers
 
@@ -91,12 +91,10 @@ def class_chances(start, rows, classes, lettered):
     return [line[0] for line in answers(lines, len(groups), lettered)[len(inner):]]
 
 
-def class_means(members, rows, pays, lettered):
-    """The means of a closed class for all amounts of its rounds.
-
-    The unknowns are the mean and, for each place but the first one, what
-    beginning there is worth more than beginning at the first one.
-    """
+def class_parts(members, rows, pays, lettered):
+    """The means of a closed class for all amounts of its rounds, and the same
+    amounts' rests: what beginning at each place is worth more than beginning
+    at the first one. The means are the first of two tuples."""
     lines = []
     for k in members:
         table = {0: whole(lettered)}
@@ -106,4 +104,72 @@ def class_means(members, rows, pays, lettered):
         # The first place has no unknown of its own: its column is the mean's.
         table[0] = whole(lettered)
         lines.append(line_of(table, len(members), list(pays[k]), lettered))
-    return answers(lines, len(members), lettered)[0]
+    found = answers(lines, len(members), lettered)
+    return found[0], [[nothing(lettered)] * len(found[0]), *found[1:]]
+
+
+def class_means(members, rows, pays, lettered):
+    """The means of a closed class for all amounts of its rounds."""
+    means, _ = class_parts(members, rows, pays, lettered)
+    return means
+
+
+def means_from_start(start, rows, pays, lettered):
+    """The means of a chain from the start for all amounts of its rounds."""
+    classes = closed_classes_of(rows)
+    none = nothing(lettered)
+    found = [none] * len(pays[0])
+    for members, chance in zip(classes, class_chances(start, rows, classes, lettered)):
+        if chance != none:
+            means = class_means(members, rows, pays, lettered)
+            found = [added(amount, times(chance, mean)) for amount, mean in zip(found, means)]
+    return tuple(found)
+
+
+def sums_within(rows, inner, pays, lettered):
+    """For each of the inner places the expected sum of an amount of each round
+    until another place is come to. From each inner place one comes to another
+    place, or ends, with a chance."""
+    column_of = {inner[at]: at for at in range(len(inner))}
+    lines = []
+    for k in inner:
+        table = {column_of[k]: whole(lettered)}
+        for j, chance in rows[k]:
+            if j in column_of:
+                put(table, column_of[j], negative(chance))
+        lines.append(line_of(table, len(inner), [pays[k]], lettered))
+    return {k: found[0] for k, found in zip(inner, answers(lines, len(inner), lettered))} if inner else {}
+
+
+def drawn(rows, k, spots, lettered):
+    """The expected spot of the place that is next after k; spots is a dict, and
+    a place without a spot counts 0."""
+    return total([times(chance, spots[j]) for j, chance in rows[k] if j in spots], lettered)
+
+
+def gains_and_rests(rows, pays, lettered):
+    """The means of an amount of each round from all places, and its rests:
+    what beginning at a place is worth more than the mean in each round.
+
+    If there are several closed classes, the mean of the rests is 0 in each of
+    them. So one choice has lesser means, or the same ones and lesser rests,
+    than another one that is better in one place and as good in all others.
+    """
+    gains, rests = {}, {}
+    classes = closed_classes_of(rows)
+    for members in classes:
+        means, parts = class_parts(members, rows, [[pay] for pay in pays], lettered)
+        found = {k: part[0] for k, part in zip(members, parts)}
+        shift = nothing(lettered)
+        if len(classes) > 1:
+            sides = {k: [rest] for k, rest in found.items()}
+            shift = negative(class_means(members, rows, sides, lettered)[0])
+        for k in members:
+            gains[k] = means[0]
+            rests[k] = added(found[k], shift)
+    inner = [k for k in range(len(rows)) if k not in gains]
+    parts = {k: drawn(rows, k, gains, lettered) for k in inner}
+    gains = {**gains, **sums_within(rows, inner, parts, lettered)}
+    parts = {k: total([pays[k], negative(gains[k]), drawn(rows, k, rests, lettered)], lettered) for k in inner}
+    rests = {**rests, **sums_within(rows, inner, parts, lettered)}
+    return [gains[k] for k in range(len(rows))], [rests[k] for k in range(len(rows))]

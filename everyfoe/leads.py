@@ -3,6 +3,7 @@
 from everyfoe.amounts import nothing
 from everyfoe.directions import checked_direction, worth
 from everyfoe.exact import lowest, shared_bottom
+from everyfoe.keeping import kept
 
 
 class Lead:
@@ -11,16 +12,16 @@ class Lead:
 
     def __init__(self, number, run, spots):
         self.number = number
-        self.run = tuple(run)
-        self.spots = tuple(spots)
+        self.run = kept(run)
+        self.spots = kept(spots)
 
 
 class Gaining:
     """A ring with a sum above 0, and a run that leads to it from the start."""
 
     def __init__(self, run, ring):
-        self.run = tuple(run)
-        self.ring = tuple(ring)
+        self.run = kept(run)
+        self.ring = kept(ring)
 
 
 def all_steps(course):

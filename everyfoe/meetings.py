@@ -1,7 +1,7 @@
 """Meetings: plan against plan."""
 
-from everyfoe.amounts import added, lifted, nothing, put, times, total, whole
-from everyfoe.chains import chances_after, class_chances, class_means, closed_classes_of
+from everyfoe.amounts import lifted, nothing, put, times, total, whole
+from everyfoe.chains import chances_after, class_chances, closed_classes_of, means_from_start
 from everyfoe.errors import BadNumber, HasLetter, TooLarge, Unlike
 from everyfoe.exact import is_integer
 from everyfoe.patience import patience_worths, recurrence_of
@@ -153,14 +153,7 @@ class Meeting:
 
     def means(self):
         """The pair of the means."""
-        found = [nothing(self.lettered), nothing(self.lettered)]
-        none = nothing(self.lettered)
-        for members, chance in self.closed_classes():
-            if chance != none:
-                means = class_means(members, self._going, self._pays, self.lettered)
-                for side in (0, 1):
-                    found[side] = added(found[side], times(chance, means[side]))
-        return tuple(found)
+        return means_from_start(self.start, self._going, self._pays, self.lettered)
 
     def patience(self):
         """The pair of the patience worths from the start."""

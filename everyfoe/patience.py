@@ -3,8 +3,8 @@ the letter x."""
 
 from everyfoe.amounts import negative
 from everyfoe.exact import ONE, ZERO
-from everyfoe.quotients import Quotient, polynomial
-from everyfoe.rows import common, primitive, row_divided, row_product
+from everyfoe.quotients import Quotient, over_one_bottom, polynomial
+from everyfoe.rows import primitive
 from everyfoe.systems import answers
 
 IMPATIENCE = (1, -1)
@@ -34,11 +34,6 @@ def recurrence_of(worths):
     is the shared bottom.
     """
     parts = [worth.over(Quotient(IMPATIENCE)) for worth in worths]
-    bottom = (1,)
-    for part in parts:
-        bottom = row_product(bottom, row_divided(part.bottom, common(bottom, part.bottom)))
-    most = len(bottom) - 1
-    for part in parts:
-        if part.top:
-            most = max(most, len(part.top) + len(bottom) - len(part.bottom))
+    tops, bottom = over_one_bottom(parts)
+    most = max([len(bottom) - 1] + [len(top) for top in tops])
     return primitive(tuple([0] * (most + 1 - len(bottom)) + list(bottom[::-1])))

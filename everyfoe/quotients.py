@@ -23,6 +23,7 @@ from everyfoe.rows import (
     row_sum,
     row_times,
     row_value,
+    shared_multiple,
     trimmed,
 )
 from everyfoe.terms import read_terms
@@ -111,6 +112,15 @@ def polynomial(ratios):
     """The polynomial with these multiples of the powers, the lowest first."""
     shared = shared_bottom(ratios)
     return Quotient(trimmed([top * (shared // bottom) for top, bottom in ratios]), (shared,))
+
+
+def over_one_bottom(quotients):
+    """A pair: the tops of the quotients over one row, and that row, which all
+    of their bottoms divide."""
+    bottom = (1,)
+    for quotient in quotients:
+        bottom = shared_multiple(bottom, quotient.bottom)
+    return [row_product(part.top, row_divided(bottom, part.bottom)) for part in quotients], bottom
 
 
 def quotient_of(text):

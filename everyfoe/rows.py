@@ -3,7 +3,7 @@
 A row is a tuple of integers that is empty or whose last integer is not 0.
 """
 
-from math import gcd
+from math import gcd, lcm
 
 from everyfoe.exact import is_integer, lowest
 
@@ -135,6 +135,17 @@ def common(one, other):
         if row_divided(one, found) is not None and row_divided(other, found) is not None:
             return found
         base = base * base // 7 + 3
+
+
+def shared_multiple(one, other):
+    """The least row that both rows, which are not empty, divide."""
+    if one == other or row_divided(one, other) is not None:
+        return one
+    if len(one) == 1 and len(other) == 1:
+        return (lcm(one[0], other[0]),)
+    scale = lcm(content(one), content(other))
+    product = row_product(primitive(one), row_divided(primitive(other), common(one, other)))
+    return row_times(product, scale)
 
 
 def greatest_item(row):

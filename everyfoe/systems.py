@@ -9,9 +9,9 @@ from math import gcd, lcm
 
 from everyfoe.amounts import lifted
 from everyfoe.exact import lowest
-from everyfoe.quotients import Quotient
-from everyfoe.rows import content, row_times, trimmed
-from everyfoe.solving import first_entry
+from everyfoe.quotients import Quotient, over_one_bottom
+from everyfoe.rows import content, row_product, row_times, trimmed
+from everyfoe.solving import first_entry, whole_row
 
 
 def whole_line(line):
@@ -102,25 +102,37 @@ def interpolated(places, values):
 def answers(lines, many, lettered):
     """The answers of a system: the first many amounts of a line are those by
     which the unknowns are multiplied, each further one is a right side. There
-    are as many lines as unknowns. Returns for each unknown the list of its
-    amounts, one for each right side."""
-    whole = [whole_line(line) for line in lines]
-    most = most_degree(whole)
+    are as many lines as unknowns. The unknowns are multiplied by ratios or
+    polynomials, the right sides may be any amounts. Returns for each unknown
+    the list of its amounts, one for each right side."""
+    if not lettered:
+        bottom, tops = determined([whole_row(line) for line in lines], many)
+        return [[lowest(top, bottom) for top in line] for line in tops]
+    sides = [over_one_bottom([line[j] for line in lines]) for j in range(many, len(lines[0]))]
+    plain = []
+    for k in range(len(lines)):
+        plain.append(list(lines[k][:many]) + [Quotient(tops[k]) for tops, _ in sides])
+    bottom, found = rows_of_answers([whole_line(line) for line in plain], many)
+    below = [row_product(bottom, row) for _, row in sides]
+    return [[Quotient(tops[j], below[j]) for j in range(len(below))] for tops in found]
+
+
+def rows_of_answers(lines, many):
+    """The answers of a system of rows: a row, and for each unknown the rows of
+    its answers times that one."""
+    most = most_degree(lines)
     places = []
     found = []
     place = 2
     while len(places) <= most:
-        parts = determined([[value_of(row, place) for row in line] for line in whole], many)
+        parts = determined([[value_of(row, place) for row in line] for line in lines], many)
         if parts is not None:
             places.append(place)
             found.append(parts)
         place = place + 1
-    if not lettered:
-        bottom, tops = found[0]
-        return [[lowest(top, bottom) for top in line] for line in tops]
     bottom = interpolated(places, [parts[0] for parts in found])
     out = []
     for k in range(many):
         sides = [[parts[1][k][j] for parts in found] for j in range(len(lines[0]) - many)]
-        out.append([Quotient(interpolated(places, tops), bottom) for tops in sides])
-    return out
+        out.append([interpolated(places, tops) for tops in sides])
+    return bottom, out
