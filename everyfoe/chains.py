@@ -169,7 +169,7 @@ def gains_and_rests(rows, pays, lettered):
             rests[k] = added(found[k], shift)
     inner = [k for k in range(len(rows)) if k not in gains]
     parts = {k: drawn(rows, k, gains, lettered) for k in inner}
-    gains = {**gains, **sums_within(rows, inner, parts, lettered)}
+    gains.update(sums_within(rows, inner, parts, lettered))
     parts = {k: total([pays[k], negative(gains[k]), drawn(rows, k, rests, lettered)], lettered) for k in inner}
-    rests = {**rests, **sums_within(rows, inner, parts, lettered)}
+    rests.update(sums_within(rows, inner, parts, lettered))
     return [gains[k] for k in range(len(rows))], [rests[k] for k in range(len(rows))]

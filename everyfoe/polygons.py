@@ -4,14 +4,14 @@ from math import gcd
 
 from everyfoe.directions import as_point, is_point, worth
 from everyfoe.errors import BadNumber
-from everyfoe.exact import ONE, ZERO, minus, order, shared_bottom
+from everyfoe.exact import minus, order, shared_bottom
 from everyfoe.keeping import kept
 from everyfoe.linear import mixture_for
 from everyfoe.means import best_mean, mean_of
 from everyfoe.rounds import rounds_in
 from everyfoe.rules import check_plain
 
-AXES = ((ONE, ZERO), (ZERO, ONE), ((-1, 1), ZERO), (ZERO, (-1, 1)))
+AXES = (((1, 1), (0, 1)), ((0, 1), (1, 1)), ((-1, 1), (0, 1)), ((0, 1), (-1, 1)))
 
 
 class Side:
@@ -55,7 +55,7 @@ def opposite(way):
     return ((-way[0][0], way[0][1]), (-way[1][0], way[1][1]))
 
 
-def way_to(start, end):
+def way_between(start, end):
     """The way from a point to another one."""
     return (minus(end[0], start[0]), minus(end[1], start[1]))
 
@@ -65,11 +65,11 @@ def normals_of(corners):
     if len(corners) == 1:
         return AXES
     if len(corners) == 2:
-        along = way_to(corners[0], corners[1])
+        along = way_between(corners[0], corners[1])
         right = turned(along)
         return (right, along, opposite(right), opposite(along))
     many = len(corners)
-    return tuple([turned(way_to(corners[k], corners[(k + 1) % many])) for k in range(many)])
+    return tuple([turned(way_between(corners[k], corners[(k + 1) % many])) for k in range(many)])
 
 
 def in_least_integers(direction):
@@ -115,21 +115,30 @@ class Sought:
             return low, high
         return self.point(self.best((0, -1)).choice), self.point(self.best((0, 1)).choice)
 
-    def between(self, start, end):
+    def beyond(self, start, end):
+        """A point beyond the side from one point to another one, to the right
+        of the way, or None if there is none."""
+        normal = turned(way_between(start, end))
+        found = self.point(self.best(in_least_integers(normal)).choice)
+        return None if worth(normal, found) == worth(normal, start) else found
+
+    def points_to(self, start, end):
         """The points from one point to another one, counterclockwise, behind
-        the first one: as long as some mean is beyond a side, its point is put
-        in."""
-        normal = turned(way_to(start, end))
-        mean = self.best(in_least_integers(normal))
-        middle = self.point(mean.choice)
-        if worth(normal, middle) == worth(normal, start):
-            return [end]
-        return self.between(start, middle) + self.between(middle, end)
+        the first one: as long as a point is beyond a side, it is put in."""
+        found = [start]
+        waiting = [end]
+        while waiting:
+            middle = self.beyond(found[-1], waiting[-1])
+            if middle is None:
+                found.append(waiting.pop())
+            else:
+                waiting.append(middle)
+        return found[1:]
 
 
 def is_corner(points, k):
     """Whether the point does not lie between the ones beside it."""
-    right = turned(way_to(points[k - 1], points[k]))
+    right = turned(way_between(points[k - 1], points[k]))
     after = points[(k + 1) % len(points)]
     return len(points) < 3 or worth(right, after) != worth(right, points[k])
 
@@ -152,7 +161,7 @@ def polygon(course):
     low, high = sought.ends()
     points = [low]
     if low != high:
-        points = sought.between(low, high) + sought.between(high, low)
+        points = sought.points_to(low, high) + sought.points_to(high, low)
     corners = [points[k] for k in range(len(points)) if is_corner(points, k)]
     first = first_corner(corners)
     corners = corners[first:] + corners[:first]
