@@ -6,8 +6,8 @@ from everyfoe.exact import ZERO
 from everyfoe.keeping import kept
 from everyfoe.means import best_mean
 from everyfoe.rounds import Rounds, next_chances
-from everyfoe.rules import check_plain, from_start
-from everyfoe.values import best_values, first_choice, totals_of
+from everyfoe.rules import check_plain
+from everyfoe.values import best_values, first_choice, totals_of, worth_of_values
 
 
 class Chance:
@@ -85,7 +85,7 @@ def greatest_chance(course, event):
     check_event(course.world, event)
     rounds = event_rounds(course, event, True)
     choice, totals = best_values(rounds, first_choice(rounds), totals_of, ZERO)
-    return Chance(from_start(course, totals.spots), choice, totals.spots)
+    return Chance(worth_of_values(course.start, totals), choice, totals.spots())
 
 
 def greatest_number(course, event):
@@ -99,4 +99,4 @@ def greatest_number(course, event):
     if mean.worth != ZERO:
         return Always(mean.choice, mean.worth)
     choice, totals = best_values(rounds, first_choice(rounds), totals_of, ZERO)
-    return Number(from_start(course, totals.spots), choice, totals.spots)
+    return Number(worth_of_values(course.start, totals), choice, totals.spots())

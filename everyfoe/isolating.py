@@ -18,6 +18,8 @@ from everyfoe.rows import (
 )
 from everyfoe.stretches import simple_parts
 
+SMALL_PRIMES = (2, 3, 5, 7, 11, 13, 17, 19, 23, 29, 31)
+
 
 def single(row):
     """The primitive row with the same roots, each of them once."""
@@ -78,6 +80,15 @@ def refined(row, root, number, limit):
     return root, number
 
 
+def has_no_ratio_root(row):
+    """Whether it is seen that no root of the row is a ratio: it would be one
+    modulo each prime that does not divide the last item."""
+    for number in SMALL_PRIMES:
+        if row[-1] % number != 0 and not roots_modulo(row, number):
+            return True
+    return False
+
+
 def ratio_roots(row):
     """The roots of the row that are ratios, in any order. The row has each of
     its roots once.
@@ -87,7 +98,9 @@ def ratio_roots(row):
     """
     if row[0] == 0:
         return [(0, 1)] + ratio_roots(row[1:])
-    if len(row) == 1:
+    if len(row) > 1 and sum(row) == 0:
+        return [(1, 1)] + ratio_roots(row_divided(row, (-1, 1)))
+    if len(row) == 1 or has_no_ratio_root(row):
         return []
     found = []
     number, starts = good_modulus(row)

@@ -5,8 +5,8 @@ from everyfoe.directions import checked_direction
 from everyfoe.exact import ZERO, as_ratio, is_ratio, lowest, order, plus
 from everyfoe.keeping import kept
 from everyfoe.rounds import next_chances, rounds_in
-from everyfoe.rules import check_choice, check_plain, from_start
-from everyfoe.values import Means, best_values, first_choice, means_of
+from everyfoe.rules import check_choice, check_plain
+from everyfoe.values import best_values, first_choice, kept_means, means_of, worth_of_values
 
 
 class Mean:
@@ -30,7 +30,7 @@ def best_mean(course, rounds, choice):
     on, or from any one if it is None."""
     start = first_choice(rounds) if choice is None else choice
     best, means = best_values(rounds, start, means_of, ZERO)
-    return Mean(from_start(course, means.gains), best, means.gains, paper_rests(rounds, means))
+    return Mean(worth_of_values(course.start, means), best, means.gains(), paper_rests(rounds, means))
 
 
 def paper_rests(rounds, means):
@@ -47,7 +47,8 @@ def paper_rests(rounds, means):
             if first and second and second[0] < 0:
                 ratio = lowest(-second[0], first[0])
                 most = ratio if order(most, ratio) < 0 else most
-    return [plus(rest, lowest(gain[0] * most[0], gain[1] * most[1])) for gain, rest in zip(means.gains, means.rests)]
+    extra = [lowest(gain[0] * most[0], gain[1] * most[1]) for gain in means.gains()]
+    return [plus(rest, more) for rest, more in zip(means.rests(), extra)]
 
 
 def mean_of(course, choice):
@@ -72,6 +73,6 @@ def mean_holds(course, c, gains, rests):
     if not is_ratios(gains, many) or not is_ratios(rests, many):
         return False
     rounds = rounds_in(course, direction)
-    paper = Means(rounds, [as_ratio(gain) for gain in gains], [as_ratio(rest) for rest in rests])
+    paper = kept_means(rounds, [as_ratio(gain) for gain in gains], [as_ratio(rest) for rest in rests], ZERO)
     losses = [paper.losses(k, move) for k in range(many) for move in rounds.lines[k]]
     return all([not row or row[0] > 0 for pair in losses for row in pair])

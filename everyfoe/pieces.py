@@ -1,6 +1,5 @@
 """Pieces: the best worths for all patience, the best means for all errors."""
 
-from everyfoe.amounts import lifted, times, total
 from everyfoe.borders import between, compared, is_end, roots_within, sign_at
 from everyfoe.directions import checked_direction
 from everyfoe.errors import BadNumber, NoLetter
@@ -12,7 +11,16 @@ from everyfoe.rounds import patient_rounds, rounds_in
 from everyfoe.rules import check_choice, check_plain
 from everyfoe.signs import has_root
 from everyfoe.texts import is_inner
-from everyfoe.values import Means, Totals, best_values, first_choice, means_of, totals_of
+from everyfoe.values import (
+    Means,
+    best_values,
+    first_choice,
+    kept_means,
+    kept_totals,
+    means_of,
+    totals_of,
+    worth_of_values,
+)
 
 
 class Piece:
@@ -56,17 +64,6 @@ def choice_values(course):
     return means_of if course.lettered else totals_of
 
 
-def start_worth(course, spots):
-    """The worth from the start, a Quotient."""
-    parts = [times(lifted(chance, True), spot) for chance, spot in zip(course.start, spots)]
-    return total(parts, True)
-
-
-def spots_of(values):
-    """The worths of all standings."""
-    return values.gains if isinstance(values, Means) else values.spots
-
-
 def first_loss(rows, low, high):
     """The first number strictly between two ends at or behind which the rows
     of what a move loses do not show that it does not gain, or None.
@@ -97,20 +94,21 @@ def part_end(values, choice, low):
 def part_of(low, high, choice, values):
     """The part with these values."""
     if isinstance(values, Means):
-        return ErrorPart(low, high, choice, values.gains, values.rests)
-    return Part(low, high, choice, values.spots)
+        return ErrorPart(low, high, choice, values.gains(), values.rests())
+    return Part(low, high, choice, values.spots())
 
 
 def all_pieces(course, direction):
     """The pieces of a course, found part by part from 0 on."""
     rounds = lettered_rounds(course, direction)
+    values_of = choice_values(course)
     choice = first_choice(rounds)
     pieces = []
     low = ZERO
     while low != ONE:
-        choice, values = best_values(rounds, choice, choice_values(course), low)
+        choice, values = best_values(rounds, choice, values_of, low)
         high = part_end(values, choice, low)
-        worth = start_worth(course, spots_of(values))
+        worth = worth_of_values(course.start, values)
         part = part_of(low, high, choice, values)
         if pieces and pieces[-1].worth == worth:
             last = pieces[-1]
@@ -154,10 +152,8 @@ def worth_of(course, choice, c):
     """The worth of a choice from the start, a Quotient."""
     direction = checked_direction(c)
     check_choice(course, choice)
-    rounds = lettered_rounds(course, direction)
-    if course.lettered:
-        return start_worth(course, means_of(rounds, choice).gains)
-    return start_worth(course, totals_of(rounds, choice).spots)
+    values_of = choice_values(course)
+    return worth_of_values(course.start, values_of(lettered_rounds(course, direction), choice))
 
 
 def order_of(course, one, other, c):
@@ -203,9 +199,9 @@ def told_values(course, rounds, part):
         return None
     place = between(part.low, part.high)
     if not course.lettered:
-        return Totals(rounds, part.spots, place) if are_quotients(part.spots, many) else None
+        return kept_totals(rounds, part.spots, place) if are_quotients(part.spots, many) else None
     if are_quotients(part.gains, many) and are_quotients(part.rests, many):
-        return Means(rounds, part.gains, part.rests, place)
+        return kept_means(rounds, part.gains, part.rests, place)
     return None
 
 
@@ -229,7 +225,7 @@ def part_holds(course, rounds, part, worth):
         for move in course.moves(k):
             if not never_gains(values.losses(k, move), part.low, part.high):
                 return False
-    return start_worth(course, spots_of(values)) == worth
+    return worth_of_values(course.start, values) == worth
 
 
 def are_pieces(course, pieces):

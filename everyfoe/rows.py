@@ -7,6 +7,8 @@ from math import gcd, lcm
 
 from everyfoe.exact import is_integer, lowest
 
+PRIME = 2305843009213693951
+
 
 def is_row(value):
     """Whether the value is a row."""
@@ -113,6 +115,37 @@ def row_value(row, ratio):
     return lowest(total * ratio[1], power)
 
 
+def are_apart(one, other):
+    """Whether two rows of at least two items are seen to have no common
+    divisor of degree 1 or more, by Euclid's steps modulo a prime.
+
+    A common divisor has the same degree modulo the prime if that does not
+    divide its last item; and it does not if it does not divide that of one of
+    the rows.
+    """
+    if one[-1] % PRIME == 0:
+        return False
+    first = [item % PRIME for item in one]
+    second = list(trimmed([item % PRIME for item in other]))
+    while len(second) > 1:
+        first, second = second, rest_modulo(first, second)
+    return len(second) == 1
+
+
+def rest_modulo(items, by):
+    """What is left of the items, times some number, when they are divided by
+    others, modulo the prime."""
+    rest = list(items)
+    while len(rest) >= len(by):
+        lead = rest[-1]
+        shift = len(rest) - len(by)
+        rest = [item * by[-1] % PRIME for item in rest]
+        for k in range(len(by)):
+            rest[shift + k] = (rest[shift + k] - lead * by[k]) % PRIME
+        rest = list(trimmed(rest))
+    return rest
+
+
 def common(one, other):
     """The greatest common divisor of two rows, primitive.
 
@@ -126,7 +159,7 @@ def common(one, other):
     other = primitive(other)
     if len(one) == 0 or len(other) == 0:
         return one if len(other) == 0 else other
-    if len(one) == 1 or len(other) == 1:
+    if len(one) == 1 or len(other) == 1 or are_apart(one, other):
         return (1,)
     base = 2 * min(greatest_item(one), greatest_item(other)) + 29
     while True:

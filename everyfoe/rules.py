@@ -1,7 +1,5 @@
-"""What the questions about free rules ask of their arguments, and sums over
-the start of a course."""
+"""What the questions about free rules ask of their arguments."""
 
-from everyfoe.amounts import added, nothing, times
 from everyfoe.errors import BadChoice, HasLetter
 
 
@@ -24,12 +22,3 @@ def check_choice(course, choice):
         raise BadChoice(len(choice))
     if len(choice) > many:
         raise BadChoice(many)
-
-
-def from_start(course, spots):
-    """The sum of the spots of the standings, each with its chance to be the
-    first one."""
-    found = nothing(course.lettered)
-    for chance, spot in zip(course.start, spots):
-        found = added(found, times(chance, spot))
-    return found
