@@ -12,6 +12,13 @@ def lifted(number, lettered):
     return number
 
 
+def amount_of(top, bottom, lettered):
+    """The amount that two rows tell, which are numbers if there is no letter."""
+    if lettered:
+        return Quotient(top, bottom)
+    return lowest(top[0] if top else 0, bottom[0])
+
+
 def times(one, other):
     """The product of two amounts."""
     if isinstance(one, Quotient):

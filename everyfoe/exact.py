@@ -67,6 +67,18 @@ def middle(one, other):
     return lowest(one[0] * other[1] + other[0] * one[1], 2 * one[1] * other[1])
 
 
+def inverse(number, modulus):
+    """The integer by which number is to be multiplied to give 1, up to a
+    multiple of modulus; None if both have a common divisor."""
+    a, b = number % modulus, modulus
+    x, y = 1, 0
+    while b != 0:
+        whole = a // b
+        a, b = b, a - whole * b
+        x, y = y, x - whole * y
+    return x % modulus if a == 1 else None
+
+
 def shared_bottom(ratios):
     """The least integer above 0 that all bottoms divide."""
     shared = 1

@@ -7,7 +7,7 @@ has this root alone.
 
 from math import gcd
 
-from everyfoe.exact import lowest, order
+from everyfoe.exact import inverse, lowest, order
 from everyfoe.rows import (
     common,
     greatest_item,
@@ -41,18 +41,6 @@ def roots_modulo(row, number):
     """The integers from 0 below number at which the row is divisible by it."""
     small = [item % number for item in row]
     return [k for k in range(number) if value_modulo(small, k, number) == 0]
-
-
-def inverse(number, modulus):
-    """The integer by which number is to be multiplied to give 1, up to a
-    multiple of modulus; both have no common divisor."""
-    a, b = number % modulus, modulus
-    x, y = 1, 0
-    while b != 0:
-        whole = a // b
-        a, b = b, a - whole * b
-        x, y = y, x - whole * y
-    return x % modulus
 
 
 def good_modulus(row):

@@ -6,22 +6,14 @@ What a move loses is told by rows with the same sign: it loses as soon as the
 first row that is not 0 is above 0.
 """
 
-from everyfoe.amounts import lifted, times, total
+from everyfoe.amounts import amount_of, lifted, times, total
 from everyfoe.chains import closed_classes_of, gains_and_rests, nexts_of, reached_from
-from everyfoe.exact import lowest
 from everyfoe.nearness import sign_after
 from everyfoe.quotients import Quotient, over_one_bottom
 from everyfoe.rows import row_product, row_sum, row_times, value_at
 from everyfoe.systems import rows_of_answers
 
 HALF = (1, 2)
-
-
-def amount_of(top, bottom, lettered):
-    """The amount that two rows tell."""
-    if lettered:
-        return Quotient(top, bottom)
-    return lowest(top[0] if top else 0, bottom[0])
 
 
 def turned_up(tops, bottom, place):
