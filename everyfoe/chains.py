@@ -151,22 +151,18 @@ def gains_and_rests(rows, pays, lettered):
     """The means of an amount of each round from all places, and its rests:
     what beginning at a place is worth more than the mean in each round.
 
-    If there are several closed classes, the mean of the rests is 0 in each of
-    them. So one choice has lesser means, or the same ones and lesser rests,
-    than another one that is better in one place and as good in all others.
+    The mean of the rests is 0 in each closed class. So one choice has lesser
+    means, or the same ones and lesser rests, than another one that is better
+    in one place and as good in all others.
     """
     gains, rests = {}, {}
-    classes = closed_classes_of(rows)
-    for members in classes:
+    for members in closed_classes_of(rows):
         means, parts = class_parts(members, rows, [[pay] for pay in pays], lettered)
-        found = {k: part[0] for k, part in zip(members, parts)}
-        shift = nothing(lettered)
-        if len(classes) > 1:
-            sides = {k: [rest] for k, rest in found.items()}
-            shift = negative(class_means(members, rows, sides, lettered)[0])
+        found = {k: part for k, part in zip(members, parts)}
+        shift = negative(class_means(members, rows, found, lettered)[0])
         for k in members:
             gains[k] = means[0]
-            rests[k] = added(found[k], shift)
+            rests[k] = added(found[k][0], shift)
     inner = [k for k in range(len(rows)) if k not in gains]
     parts = {k: drawn(rows, k, gains, lettered) for k in inner}
     gains.update(sums_within(rows, inner, parts, lettered))

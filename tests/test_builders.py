@@ -235,6 +235,23 @@ def str_of(number):
     return out.lstrip("0")
 
 
+class SidesTest(BuiltCase):
+    def test_moves_of_the_sides(self):
+        world = World("mine c d\nfoe x y z\nboard b\npay * * 0 0\nsignal * * u:1\n")
+        third = ("1/3*e", "1/3*e", "1-2/3*e")
+        for side, moves in (("mine", "cd"), ("foe", "xyz")):
+            other = "xyz" if side == "mine" else "cd"
+            plan = look_back(world, 1, f"play * * {moves[-1]}:1\n", side)
+            self.check_built(plan, world, side)
+            self.assertEqual(plan.play("s2", "b"), ((moves[-1], (1, 1)),))
+            self.check_error(BadText, (1, 4), look_back, world, 1, f"play * * {other[0]}:1\n", side)
+            self.assertEqual([move for move, _ in trembled(world, plan).play("s1", "b")], list(moves))
+            given = Plan(world, f"state s t\nplay s b {moves[0]}:1\nplay t b {moves[0]}:1\ngo s * {moves[0]} u t:1\ngo t * {moves[1]} u s:1\n", side)
+            self.assertEqual(least(world, given).groups, (("s", "t"),))
+        plan = Plan(world, "state s\nplay s b z:1\n", "foe")
+        self.assertEqual(values(trembled(world, plan).play("s1", "b")), list(zip("xyz", third)))
+
+
 class FollowedTest(BuiltCase):
     def test_rounds(self):
         chance = random.Random(2)
