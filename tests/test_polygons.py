@@ -1,3 +1,4 @@
+import itertools
 import random
 import unittest
 from fractions import Fraction
@@ -166,6 +167,16 @@ class PolygonTest(PolygonCase):
         found = self.check_polygon(Course(Plan(square, "state s t\nplay * b c:1\ngo s * * * t:1\ngo t * * * s:1\n")))
         self.assertEqual(found.corners, (((0, 1), (0, 1)), ((2, 1), (0, 1)), ((2, 1), (2, 1)), ((0, 1), (2, 1))))
         self.assertEqual([side.normal for side in found.sides], [(0, -1), (1, 0), (0, 1), (-1, 0)])
+
+    def test_moves_in_any_order(self):
+        # Which point of the left side is found first hangs on the order of moves.
+        corners = [(0, 0), (2, 0), (2, 2), (0, 2)]
+        for order in itertools.permutations(corners):
+            pays = "".join(f"pay c {move} {a} {b}\n" for move, (a, b) in zip("cdez", order))
+            course = Course(Plan(World("mine c\nfoe c d e z\nboard b\n" + pays), "state s\nplay * b c:1\n"))
+            found = polygon(course)
+            self.assertEqual(found.corners, tuple(told(corner) for corner in corners))
+            self.assertEqual(found.choices, tuple(("cdez"[order.index(corner)],) for corner in corners))
 
     def test_large_numbers(self):
         great = 10 ** 60
