@@ -283,6 +283,21 @@ class ErrorsTest(PieceCase):
             halves = [ErrorPart(low, high, part.choice, part.gains, part.rests) for low, high in (((0, 1), (1, 2)), ((1, 2), (1, 1)))]
             self.assertIs(pieces_hold(course, (1, 0), (Piece(0, 1, found[0].worth, halves),)), True)
 
+    def test_rests_that_are_alike_at_a_single_number(self):
+        # At e = 1/2 the way to t pays as much as the other one: that is no gain.
+        world = World("mine c d x z\nfoe c d\nboard b\npay * * 0 0\npay x c 1 0\npay z c -1 0\npay c * 1 0\n")
+        text = "state s t u\nplay s * x:e z:1-e\nplay t * c:e-e^2 d:1-e+e^2\nplay u * c:1/4 d:3/4\ngo s * * *.c t:1\ngo s * * *.d u:1\n"
+        course = Course(Plan(world, text))
+        found = self.check_pieces(course, (1, 0))
+        self.assertEqual((len(found), found[0].worth), (1, quotient((1, 4))))
+        part = found[0].parts[0]
+        joined = (Piece(0, 1, found[0].worth, [ErrorPart(0, 1, part.choice, part.gains, part.rests)]),)
+        self.assertIs(pieces_hold(course, (1, 0), joined), True)
+        # At other numbers it pays more, or less, but leads to a lesser mean.
+        changed_rest = at_place(part.rests, course.standings.index(("b", "t")), part.rests[1] + Quotient((1,), (10 ** 30,)))
+        joined = (Piece(0, 1, found[0].worth, [ErrorPart(0, 1, part.choice, part.gains, changed_rest)]),)
+        self.assertIs(pieces_hold(course, (1, 0), joined), False)
+
     def test_small_errors(self):
         # Without errors the plan forgives nothing; with any error it is never angry for long.
         plan = Plan(TABLE, "state nice angry\nplay nice * c:1-e d:e\nplay angry * d:1-e c:e\ngo nice * * *.d angry:1\ngo angry * * *.c nice:1\n")
@@ -465,6 +480,22 @@ class HoldTest(PieceCase):
             for value in [None, (), [], list(pieces), pieces[0], pieces[0].parts, 1, "pieces", {}, (None,), pieces[::-1], pieces + pieces, (pieces,)]:
                 self.check_false(course, c, value)
             self.check_false(course, (c[1], c[0] + 5), pieces)
+
+    def test_stretches_without_numbers(self):
+        for course, c, pieces in self.cases:
+            for k, piece in enumerate(pieces):
+                part = piece.parts[0]
+                middle = between(part.low, part.high)
+                far = between(middle, part.high)
+                for ends in ((middle, middle), (far, middle), (part.high,), (part.low,)):
+                    places = [part.low, *ends, part.high]
+                    parts = [changed(part, low=low, high=high) for low, high in zip(places, places[1:])]
+                    self.check_false(course, c, at_place(pieces, k, changed(piece, parts=(*parts, *piece.parts[1:]))))
+                none = Piece(piece.high, piece.high, ONE, [changed(part, low=piece.high, high=piece.high)])
+                self.check_false(course, c, pieces[:k + 1] + (none,) + pieces[k + 1:])
+                self.check_false(course, c, at_place(pieces, k, changed(piece, worth=None)))
+                self.check_false(course, c, at_place(pieces, k, changed(piece, low=None)))
+                self.check_false(course, c, at_place(pieces, k, changed(piece, parts=None)))
 
     def test_parts_of_the_other_kind(self):
         for course, c, pieces in self.cases:

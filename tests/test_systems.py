@@ -81,6 +81,20 @@ class SystemTest(CheckCase):
         self.assertEqual(Quotient(found[1][0], bottom), Quotient((1,), row))
         self.assertEqual(Quotient(found[0][0], bottom), Quotient((-1,), tuple(3 * item for item in row)))
 
+    def test_lines_in_another_order_at_some_places(self):
+        # At 2 and 5 the first line can not lead, at 3 the determinant is 0.
+        for first in ((-2, 1), (10, -7, 1)):
+            bottom, found = rows_of_answers([[first, (1,), (1,)], [(1,), (1,), (3,)]], 2)
+            determinant_row = tuple(a - b for a, b in zip(first, (1,) + (0,) * (len(first) - 1)))
+            self.assertEqual(Quotient(found[0][0], bottom), Quotient((-2,), determinant_row))
+            self.assertEqual(Quotient(found[1][0], bottom), Quotient((3,)) - Quotient((-2,), determinant_row))
+        bottom, found = rows_of_answers([[(-2, 1), (0, 1), (1,), (1,)], [(1,), (-3, 1), (2,), ()], [(2,), (1,), (-4, 1), (0, 5)]], 3)
+        for line in [[(-2, 1), (0, 1), (1,), (1,)], [(1,), (-3, 1), (2,), ()], [(2,), (1,), (-4, 1), (0, 5)]]:
+            total = Quotient(())
+            for k in range(3):
+                total = total + Quotient(line[k]) * Quotient(found[k][0], bottom)
+            self.assertEqual(total, Quotient(line[3]))
+
     def test_large_systems(self):
         chance = random.Random(3)
         for size in (10 ** 60, 10 ** 500):
