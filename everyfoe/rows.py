@@ -5,7 +5,7 @@ A row is a tuple of integers that is empty or whose last integer is not 0.
 
 from math import gcd, lcm
 
-from everyfoe.exact import is_integer, lowest
+from everyfoe.exact import inverse, is_integer, lowest
 
 PRIME = 2305843009213693951
 
@@ -133,15 +133,14 @@ def are_apart(one, other):
 
 
 def rest_modulo(items, by):
-    """What is left of the items, times some number, when they are divided by
-    others, modulo the prime."""
+    """What is left of the items when they are divided by others, modulo the
+    prime."""
     rest = list(items)
+    back = inverse(by[-1], PRIME)
     while len(rest) >= len(by):
-        lead = rest[-1]
+        factor = rest[-1] * back % PRIME
         shift = len(rest) - len(by)
-        rest = [item * by[-1] % PRIME for item in rest]
-        for k in range(len(by)):
-            rest[shift + k] = (rest[shift + k] - lead * by[k]) % PRIME
+        rest = rest[:shift] + [(a - factor * b) % PRIME for a, b in zip(rest[shift:], by)]
         rest = list(trimmed(rest))
     return rest
 

@@ -4,43 +4,54 @@ A row is moved to the unit stretch first: a list of integers whose polynomial
 on (0, 1) is the row on (low, high), up to a number above 0.
 """
 
+from itertools import accumulate
+
 from everyfoe.exact import middle, sign_of
 
 
 def on_unit(row, low, high):
     """The row with low + (high - low) * x put in for the letter, times the
-    shared bottom of both ends to the power of the degree."""
+    shared bottom of both ends to the power of the degree.
+
+    What is put in is start * (1 + v): the items are those of the powers of
+    start * v, and start * v is width * x.
+    """
     bottom = low[1] * high[1]
     start = low[0] * high[1]
     width = high[0] * low[1] - start
-    found = []
+    whole = scaled(row[::-1], bottom)[::-1]
+    if start == 0:
+        return scaled(whole, width)
+    moved = moved_by_one(scaled(whole, start))
+    out = []
+    below = 1
+    above = 1
+    for item in moved:
+        out.append(item // below * above)
+        below = below * start
+        above = above * width
+    return out
+
+
+def scaled(items, factor):
+    """The items with factor * x put in for x."""
+    out = []
     power = 1
-    for item in row[::-1]:
-        found = put_in(found, start, width)
-        if found:
-            found[0] = found[0] + item * power
-        else:
-            found = [item]
-        power = power * bottom
-    return found
-
-
-def put_in(items, start, width):
-    """The items, multiplied by start + width * x."""
-    if not items:
-        return []
-    out = [start * item for item in items] + [0]
-    for k in range(len(items)):
-        out[k + 1] = out[k + 1] + width * items[k]
+    for item in items:
+        out.append(item * power)
+        power = power * factor
     return out
 
 
 def moved_by_one(items):
-    """The items with x + 1 put in for x."""
-    out = list(items)
-    for k in range(len(out) - 1):
-        for j in range(len(out) - 2, k - 1, -1):
-            out[j] = out[j] + out[j + 1]
+    """The items with x + 1 put in for x: each one is the sum of all that are
+    left of the sums of the highest powers."""
+    out = []
+    rest = items[::-1]
+    while rest:
+        sums = list(accumulate(rest))
+        out.append(sums[-1])
+        rest = sums[:-1]
     return out
 
 
@@ -52,11 +63,7 @@ def unit_spread(items):
 
 def halves(items):
     """The two halves of the unit stretch, each moved to the unit stretch."""
-    low = list(items)
-    power = 1
-    for k in range(len(low) - 1, -1, -1):
-        low[k] = low[k] * power
-        power = power * 2
+    low = scaled(items[::-1], 2)[::-1]
     return low, moved_by_one(low)
 
 

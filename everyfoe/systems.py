@@ -149,15 +149,16 @@ def interpolated(places, values, backs, number):
     """The items of the polynomial whose values at ascending integers are
     these, modulo a number, of no higher degree than there are places, less
     one. backs has the inverses of small integers."""
-    steps = list(values)
+    steps = [values[0]]
+    left = values
     for k in range(1, len(places)):
-        for j in range(len(places) - 1, k - 1, -1):
-            steps[j] = (steps[j] - steps[j - 1]) * backs[places[j] - places[j - k]] % number
+        gaps = [backs[high - low] for low, high in zip(places, places[k:])]
+        left = [(b - a) * gap % number for a, b, gap in zip(left, left[1:], gaps)]
+        steps.append(left[0])
     items = []
     for k in range(len(places) - 1, -1, -1):
-        items = [0] + items
-        for j in range(len(items) - 1):
-            items[j] = (items[j] - places[k] * items[j + 1]) % number
+        place = places[k]
+        items = [(a - place * b) % number for a, b in zip([0] + items, items + [0])]
         items[0] = (items[0] + steps[k]) % number
     return items
 

@@ -14,6 +14,7 @@ FOLDER = pathlib.Path(__file__).resolve().parent.parent / "everyfoe"
 FILES = sorted(FOLDER.rglob("*.py"))
 LIBRARY = {
     "math": {"gcd", "lcm", "isqrt", "comb", "perm", "factorial"},
+    "itertools": {"accumulate", "pairwise", "islice", "zip_longest", "chain", "product", "combinations", "permutations"},
     "heapq": {"heappush", "heappop", "heapify", "heapreplace", "heappushpop"},
 }
 CALLED = set(
