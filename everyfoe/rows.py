@@ -7,7 +7,7 @@ from math import gcd, lcm
 
 from everyfoe.exact import inverse, is_integer, lowest
 
-PRIME = 2305843009213693951
+PRIME = 1073741789
 
 
 def is_row(value):

@@ -6,7 +6,7 @@ from math import gcd
 from everyfoe.exact import inverse
 from everyfoe.moduli import first_modulus, next_modulus
 from everyfoe.quotients import Quotient, polynomial
-from everyfoe.rows import are_apart, common, primitive, row_product, shared_multiple
+from everyfoe.rows import PRIME, are_apart, common, primitive, row_product, shared_multiple
 from everyfoe.systems import answers, greatest_size, rows_of_answers
 from tests.helper import CheckCase, fraction, pair
 from tests.test_meetings import solve
@@ -140,7 +140,7 @@ class ModuliTest(CheckCase):
 class CommonTest(CheckCase):
     def test_rows_that_are_apart(self):
         chance = random.Random(4)
-        prime = 2 ** 61 - 1
+        prime = PRIME
         for _ in range(200):
             shared = [chance.randint(-9, 9) for _ in range(chance.randint(0, 2))] + [chance.choice([1, 2, prime])]
             one = row_product(tuple(shared), tuple(chance.randint(-9, 9) for _ in range(3)) + (chance.choice([1, 3, prime]),))
