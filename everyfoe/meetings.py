@@ -89,7 +89,8 @@ class Meeting:
         found = {}
         for goal, chance in self.world.going(board, mine, foe):
             for pair, part in pairs.items():
-                found[(goal, *pair)] = times(self.lift(chance), part)
+                after = (goal, *pair)
+                found[after] = times(self.lift(chance), part)
         return found
 
     def outcomes(self, standing):

@@ -155,6 +155,11 @@ class LanguageTest(unittest.TestCase):
         for where, node in nodes_of((ast.FunctionDef, ast.ClassDef)):
             self.assertEqual(node.decorator_list, [], where)
 
+    def test_no_star_in_an_index_l7(self):
+        for where, node in nodes_of(ast.Subscript):
+            stars = [part for part in ast.walk(node.slice) if isinstance(part, ast.Starred)]
+            self.assertEqual(stars, [], where)
+
     def test_constants_l7_l27(self):
         for where, node in nodes_of(ast.Constant):
             self.assertNotIsInstance(node.value, float, where)
