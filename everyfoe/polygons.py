@@ -4,14 +4,13 @@ from math import gcd
 
 from everyfoe.directions import as_point, is_point, worth
 from everyfoe.errors import BadNumber
-from everyfoe.exact import minus, order, shared_bottom
+from everyfoe.exact import order, shared_bottom
 from everyfoe.keeping import kept
 from everyfoe.linear import mixture_for
 from everyfoe.means import best_mean, mean_of
+from everyfoe.planes import excludes, normals_of, turned, way_between
 from everyfoe.rounds import rounds_in
 from everyfoe.rules import check_plain
-
-AXES = (((1, 1), (0, 1)), ((0, 1), (1, 1)), ((-1, 1), (0, 1)), ((0, 1), (-1, 1)))
 
 
 class Side:
@@ -38,38 +37,6 @@ class Polygon:
         place = as_point(point)
         corners = [as_point(corner) for corner in self.corners]
         return not any([excludes(normal, corners, place) for normal in normals_of(corners)])
-
-
-def excludes(normal, corners, point):
-    """Whether the point is further out than all corners."""
-    reach = worth(normal, point)
-    return all([order(worth(normal, corner), reach) < 0 for corner in corners])
-
-
-def turned(way):
-    """The direction at right angles to a way, to its right."""
-    return (way[1], (-way[0][0], way[0][1]))
-
-
-def opposite(way):
-    return ((-way[0][0], way[0][1]), (-way[1][0], way[1][1]))
-
-
-def way_between(start, end):
-    """The way from a point to another one."""
-    return (minus(end[0], start[0]), minus(end[1], start[1]))
-
-
-def normals_of(corners):
-    """The outer normals of the sides, in their order."""
-    if len(corners) == 1:
-        return AXES
-    if len(corners) == 2:
-        along = way_between(corners[0], corners[1])
-        right = turned(along)
-        return (right, along, opposite(right), opposite(along))
-    many = len(corners)
-    return tuple([turned(way_between(corners[k], corners[(k + 1) % many])) for k in range(many)])
 
 
 def in_least_integers(direction):

@@ -2,7 +2,7 @@
 
 from everyfoe.plans import Plan
 from everyfoe.rulebooks import Rulebook
-from everyfoe.worlds import World
+from everyfoe.worlds import World, world_of
 
 MINE = "cdxy"
 FOE = "cdz"
@@ -76,3 +76,14 @@ def drawn_rulebook(chance, world, side="foe", states=2, bars=2):
             goal = chance.choice(names)
             lines.append(f"go {name} {chance.choice((*world.boards, '*'))} {mine} {foe} {signal_word(chance, world)} {goal}")
     return Rulebook(world, "\n".join(lines) + "\n", side)
+
+
+def drawn_ratio(chance, above=1, below=0):
+    """A ratio with so many digits above and below the line."""
+    return (chance.randint(-(10**above), 10**above), chance.randint(1, 10**below))
+
+
+def drawn_table(chance, mine, foe, above=1, below=0):
+    """A plain world with pays of so many digits."""
+    pays = [[(drawn_ratio(chance, above, below), drawn_ratio(chance, above, below)) for _ in range(foe)] for _ in range(mine)]
+    return world_of(list(MINE[:mine]), ["c", "d", "z", "w"][:foe], pays)
