@@ -3,6 +3,8 @@
 from everyfoe.errors import BadNumber
 from everyfoe.exact import ZERO, as_ratio, is_ratio, lowest, plus
 
+OWN_PAYS = (((1, 1), (0, 1)), ((0, 1), (1, 1)))
+
 
 def is_point(value):
     """Whether the value is a pair of ratios."""

@@ -20,24 +20,25 @@ class Room:
         self.high = high
         self.row = row
 
-    def spots(self):
+    def stops(self):
         """Its ends and the roots between them, in ascending order."""
-        return [self.low, *(roots_behind(self.row, self.low, self.high) if self.row else ()), self.high]
+        roots = roots_behind(self.row, self.low, self.high) if self.row else ()
+        return [self.low, *roots, self.high]
 
     def place_below(self):
         """A ratio at which the room is below 0, or None."""
-        spots = self.spots()
-        for k in range(len(spots) - 1):
-            place = between(spots[k], spots[k + 1])
+        stops = self.stops()
+        for k in range(len(stops) - 1):
+            place = between(stops[k], stops[k + 1])
             if value_at(self.row, place[0], place[1]) < 0:
                 return place
         return None
 
     def place_at_nothing(self):
         """An end at which the room is 0, or None."""
-        for spot in self.spots():
-            if sign_at(self.row, spot) == 0:
-                return spot
+        for stop in self.stops():
+            if sign_at(self.row, stop) == 0:
+                return stop
         return None
 
 

@@ -8,7 +8,6 @@ out lead to an end behind which all is worth 0.
 
 from everyfoe.amounts import added, lifted, put, times
 from everyfoe.quotients import Quotient
-from everyfoe.rows import row_times
 from everyfoe.systems import whole_line
 
 LETTER = (0, 1)
@@ -68,14 +67,25 @@ def rounds_in(course, c):
     return Rounds(ways, course.lettered)
 
 
+def discounted(ways, now, later):
+    """The rounds of these ways if what a round is worth counts now, and all
+    that follows counts later: two ratios, or two Quotients."""
+    lettered = isinstance(now, Quotient)
+    found = []
+    for ways_at in ways:
+        table = {}
+        for move, (worth, pairs) in ways_at.items():
+            behind = [(k, times(later, lifted(chance, lettered))) for k, chance in pairs]
+            table[move] = (times(now, lifted(worth, lettered)), behind)
+        found.append(table)
+    return Rounds(found, lettered)
+
+
+def patient(ways):
+    """The rounds of ways without a letter for the patience x."""
+    return discounted(ways, Quotient(IMPATIENCE), Quotient(LETTER))
+
+
 def patient_rounds(course, c):
-    """The rounds of a course without a letter for the patience x: what a round
-    is worth counts 1 - x, all that follows counts x."""
-    ways = []
-    for table in rounds_in(course, c).ways:
-        found = {}
-        for move, (worth, pairs) in table.items():
-            later = [(k, Quotient(row_times(LETTER, top), (bottom,))) for k, (top, bottom) in pairs]
-            found[move] = (Quotient(row_times(IMPATIENCE, worth[0]), (worth[1],)), later)
-        ways.append(found)
-    return Rounds(ways, True)
+    """The rounds of a course without a letter for the patience x."""
+    return patient(rounds_in(course, c).ways)

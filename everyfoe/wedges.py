@@ -6,7 +6,7 @@ from everyfoe.exact import lowest, minus
 from everyfoe.planes import AXES, lowest_point
 from everyfoe.tables import greatest_of, pay_table, secured
 
-UNITS = 2 ** 24
+UNITS = 16777216
 
 
 class Wedge:

@@ -210,6 +210,29 @@ class LanguageTest(unittest.TestCase):
             if isinstance(node.ctx, ast.Load):
                 self.assertIn(node.attr, assigned | own | METHODS, where)
 
+    def test_attributes_have_free_names_l26(self):
+        allowed = set("count index title find get join lower upper split strip copy add".split())
+        taken = {name for kind in (str, int, list, dict, set, bytes) for name in dir(kind)} - allowed
+        for where, node in nodes_of(ast.Attribute):
+            if isinstance(node.ctx, ast.Store):
+                self.assertNotIn(node.attr, taken, where)
+        free = {"add", "discard"} | METHODS
+        for where, node in nodes_of(ast.ClassDef):
+            for part in node.body:
+                if isinstance(part, ast.FunctionDef) and not part.name.startswith("__"):
+                    self.assertNotIn(part.name, taken - free, where)
+
+    def test_rows_of_exit_and_finally_are_plain_l6(self):
+        for where, node in nodes_of(ast.Try):
+            for part in node.finalbody:
+                self.assertIsInstance(part, (ast.Assign, ast.If), where)
+                for inner in ast.walk(part):
+                    self.assertNotIsInstance(inner, (ast.Call, ast.Subscript, ast.Return), where)
+        for where, node in nodes_of(ast.FunctionDef):
+            if node.name == "__exit__":
+                for part in node.body:
+                    self.assertIsInstance(part, (ast.Assign, ast.Expr, ast.Return), where)
+
     def test_no_name_is_method_and_attribute_of_a_class_l18(self):
         for where, node in nodes_of(ast.ClassDef):
             methods = {part.name for part in node.body if isinstance(part, ast.FunctionDef)}

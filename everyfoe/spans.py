@@ -1,0 +1,119 @@
+"""Spans: independent rows of integers, and what is led to from a first row.
+
+A *way* leads rows: it is a list with the pairs (index, integer) of each item.
+"""
+
+from everyfoe.exact import shared_bottom
+from everyfoe.rows import content
+
+
+class Span:
+    """Independent rows of integers, and the same ones brought into steps: each
+    of these has its lead at an item at which those behind it are 0."""
+
+    def __init__(self):
+        self.rows = []
+        self.leads = []
+        self.stairs = []
+
+    def takes(self, row):
+        """Whether a row is no sum of multiples of the rows. If so it is put to
+        them."""
+        rest = row
+        for lead, stair in zip(self.leads, self.stairs):
+            if rest[lead] != 0:
+                rest = without_lead(rest, stair, lead)
+        lead = first_lead(rest)
+        if lead is None:
+            return False
+        self.rows.append(row)
+        self.leads.append(lead)
+        self.stairs.append(rest)
+        return True
+
+
+def first_lead(row):
+    """The first index at which the row is not 0, or None."""
+    for k in range(len(row)):
+        if row[k] != 0:
+            return k
+    return None
+
+
+def without_lead(row, stair, lead):
+    """A multiple of the row, less one of the stair, that is 0 at the lead."""
+    top = stair[lead]
+    factor = row[lead]
+    return reduced([top * a - factor * b for a, b in zip(row, stair)])
+
+
+def reduced(row):
+    """The integers without their greatest common divisor."""
+    shared = content(row)
+    if shared < 2:
+        return row
+    return [item // shared for item in row]
+
+
+def whole_ways(table):
+    """The pairs (index, ratio) of each item as pairs (index, integer), all of
+    them times one integer."""
+    scale = shared_bottom([ratio for pairs in table for _, ratio in pairs])
+    return [[(k, top * (scale // bottom)) for k, (top, bottom) in pairs] for pairs in table]
+
+
+def whole_items(ratios):
+    """Ratios as integers, all of them times one integer."""
+    scale = shared_bottom(ratios)
+    return [top * (scale // bottom) for top, bottom in ratios]
+
+
+def led(row, way):
+    """The row that a row is led to, without the divisor of all its items."""
+    found = [0] * len(row)
+    for item, pairs in zip(row, way):
+        if item != 0:
+            for k, factor in pairs:
+                found[k] = found[k] + item * factor
+    return reduced(found)
+
+
+class Search:
+    """Rows at places, looked for from a first one on, those of the shortest
+    words first.
+
+    ways tells for each place the pairs of a way and of the pairs (letter, next
+    place) that lead so. shows tells for a row the letters that show that it
+    is a wrong one, or None.
+    """
+
+    def __init__(self, place, row, ways):
+        self.ways = ways
+        self.spans = {name: Span() for name in ways}
+        self.waiting = []
+        self.put(place, row, ())
+
+    def put(self, place, row, word):
+        """Put a row to a place, if it is no sum of multiples there."""
+        if self.spans[place].takes(row):
+            self.waiting.append((place, row, word))
+
+    def wrong_word(self, shows):
+        """The shortest word that leads to a wrong row, or None if all rows
+        that are led to are right ones."""
+        at = 0
+        while at < len(self.waiting):
+            place, row, word = self.waiting[at]
+            letters = shows(row)
+            if letters is not None:
+                return word + letters
+            for way, steps in self.ways[place]:
+                after = led(row, way)
+                for letter, goal in steps:
+                    self.put(goal, after, (*word, letter))
+            at = at + 1
+        return None
+
+    def rows_at(self, place):
+        """The rows of a place, as ratios."""
+        return tuple([tuple([(item, 1) for item in row]) for row in self.spans[place].rows])
