@@ -1,7 +1,6 @@
 """Two plans: at which patience no side gains by leaving its own."""
 
 from everyfoe.amounts import put, times, total
-from everyfoe.borders import between
 from everyfoe.closed import ALL, in_both, joined, not_below
 from everyfoe.courses import Course
 from everyfoe.directions import OWN_PAYS
@@ -12,7 +11,6 @@ from everyfoe.meetings import Meeting
 from everyfoe.pieces import patience_pieces
 from everyfoe.plans import SIDES
 from everyfoe.rounds import discounted, patient, rounds_in
-from everyfoe.rows import row_times, value_at
 from everyfoe.texts import is_inner
 from everyfoe.values import HALF, best_values, first_choice, kept_totals, totals_of, worth_of_values
 
@@ -61,14 +59,12 @@ def course_of(meeting, at):
 
 def steady_from_start(meeting, at):
     """Where the side with this index does not gain from the start: where its
-    best worth is not above its own one."""
+    best worth is not above its own one. The bottoms of both have no root
+    between 0 and 1, so they are above 0 there."""
     own = meeting.patience()[at]
     found = []
     for piece in patience_pieces(course_of(meeting, at), OWN_PAYS[at]):
-        lack = own - piece.worth
-        place = between(piece.low, piece.high)
-        up = value_at(lack.bottom, place[0], place[1]) > 0
-        found = found + not_below(lack.top if up else row_times(lack.top, -1), piece.low, piece.high)
+        found = found + not_below((own - piece.worth).top, piece.low, piece.high)
     return joined(found)
 
 

@@ -6,6 +6,7 @@ from everyfoe.directions import checked_direction, worth
 from everyfoe.drafts import check_sides, check_world
 from everyfoe.errors import HasLetter
 from everyfoe.exact import ZERO
+from everyfoe.guesses import guessed
 from everyfoe.keeping import kept
 from everyfoe.rounds import next_chances
 from everyfoe.spans import Search, whole_items, whole_ways
@@ -78,11 +79,6 @@ def starts_of(plan):
     return [chances.get(state, ZERO) for state in plan.states]
 
 
-def sum_shows(row):
-    """The empty word if the items do not add up to 0, otherwise None."""
-    return () if sum(row) != 0 else None
-
-
 def word_chance(plan, word):
     """The chance of a word under a plan."""
     spots = starts_of(plan)
@@ -102,6 +98,21 @@ def ratios_led(spots, ways):
     return [found.get(k, ZERO) for k in range(len(spots))]
 
 
+def word_or_rows(place, row, ways, marks):
+    """A pair: the shortest word that shows a wrong row, or None; and if there
+    is none, the rows of all places, a dict."""
+    rows = guessed(place, row, ways, marks)
+    if rows is not None:
+        return None, rows
+    search = Search(place, row, ways, marks)
+    return search.wrong_word(), search.all_rows()
+
+
+def as_ratios(rows):
+    """Rows of integers as rows of ratios."""
+    return [[(item, 1) for item in row] for row in rows]
+
+
 def alike(plan, other):
     """Whether two plans look alike: an Alike or a Parting."""
     check_pair(plan, other)
@@ -112,11 +123,11 @@ def alike(plan, other):
         for (own, signal), steps in letters_at(world, board, plan.side).items():
             way = side_by_side(state_ways(plan, board, own, signal), state_ways(other, board, own, signal))
             ways[board].append((way, steps))
-    search = Search(world.boards[0], joint_start(starts_of(plan), starts_of(other)), ways)
-    word = search.wrong_word(sum_shows)
+    row = joint_start(starts_of(plan), starts_of(other))
+    word, rows = word_or_rows(world.boards[0], row, ways, [((), [1] * len(row))])
     if word is not None:
         return Parting(word, (word_chance(plan, word), word_chance(other, word)))
-    return Alike([search.rows_at(board) for board in world.boards])
+    return Alike([as_ratios(rows[board]) for board in world.boards])
 
 
 def course_ways(course, move):
@@ -144,22 +155,14 @@ def alike_in_pay(plan, other, c):
     check_pair(plan, other)
     direction = checked_direction(c)
     courses = (Course(plan), Course(other))
-    moves = courses[0].moves(0)
-    steps = []
-    pays = []
-    for move in moves:
-        steps.append((side_by_side(course_ways(courses[0], move), course_ways(courses[1], move)), [(move, 0)]))
-        pays.append(whole_items([item for course in courses for item in course_worths(course, move, direction)]))
-
-    def pay_shows(row):
-        """A last free move for which the pays differ, or None."""
-        for move, items in zip(moves, pays):
-            if sum([a * b for a, b in zip(row, items)]) != 0:
-                return (move,)
-        return None
-
-    search = Search(0, joint_start(courses[0].start, courses[1].start), {0: steps})
-    word = search.wrong_word(pay_shows)
+    ways = []
+    marks = []
+    for move in courses[0].moves(0):
+        way = side_by_side(course_ways(courses[0], move), course_ways(courses[1], move))
+        ways.append((way, [(move, 0)]))
+        pays = [item for course in courses for item in course_worths(course, move, direction)]
+        marks.append(((move,), whole_items(pays)))
+    word, rows = word_or_rows(0, joint_start(courses[0].start, courses[1].start), {0: ways}, marks)
     if word is not None:
         return Parting(word, [last_pay(course, word, direction) for course in courses])
-    return Alike(search.rows_at(0))
+    return Alike(as_ratios(rows[0]))

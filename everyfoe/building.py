@@ -114,8 +114,9 @@ def keeping_plan(world, row, at, mixture):
     lines = [" ".join(["state"] + [f"s{k + 1}" for k in range(many + 1)]), f"go * * * * {last}:1"]
     for k in range(many):
         mine, foe = row[k]
+        after = (k + 1) % many + 1
         lines.append(f"play s{k + 1} * {row[k][at]}:1")
-        lines.append(f"go s{k + 1} * {row[k][at]} {mine}.{foe} s{(k + 1) % many + 1}:1")
+        lines.append(f"go s{k + 1} * {row[k][at]} {mine}.{foe} s{after}:1")
     moves = (world.mine, world.foe)[at]
     words = [f"{move}:{ratio_text(share)}" for move, share in zip(moves, mixture) if share[0] > 0]
     lines.append(" ".join(["play", last, "*", *words]))

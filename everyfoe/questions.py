@@ -34,42 +34,42 @@ class Reader:
         if not isinstance(text, str):
             raise BadText(0, 0)
         self.words = text.split(" ")
-        self.at = 0
+        self.place = 0
 
     def wrong(self):
         """The column of the next word."""
-        return self.at + 1
+        return self.place + 1
 
     def is_done(self):
-        return self.at >= len(self.words)
+        return self.place >= len(self.words)
 
     def next_is(self, word):
         """Whether the next word is this one."""
-        return not self.is_done() and self.words[self.at] == word
+        return not self.is_done() and self.words[self.place] == word
 
     def take(self, known):
         """The next word, one of these."""
-        if self.is_done() or self.words[self.at] not in known:
+        if self.is_done() or self.words[self.place] not in known:
             raise BadText(1, self.wrong())
-        return self.step()
+        return self.taken()
 
-    def step(self):
+    def taken(self):
         """The next word, whatever it is."""
-        self.at = self.at + 1
-        return self.words[self.at - 1]
+        self.place = self.place + 1
+        return self.words[self.place - 1]
 
     def take_name(self, free):
         """The next word, a name, or one of the words that are free."""
-        if self.is_done() or not (is_name(self.words[self.at]) or self.words[self.at] in free):
+        if self.is_done() or not (is_name(self.words[self.place]) or self.words[self.place] in free):
             raise BadText(1, self.wrong())
-        return self.step()
+        return self.taken()
 
     def take_ratio(self):
         """The ratio of the next word."""
-        ratio = None if self.is_done() else ratio_word(self.words[self.at])
+        ratio = None if self.is_done() else ratio_word(self.words[self.place])
         if ratio is None:
             raise BadText(1, self.wrong())
-        self.step()
+        self.taken()
         return ratio
 
     def take_end(self):
@@ -90,7 +90,7 @@ class Reader:
         """The marks of an event, with the word or between them."""
         marks = [self.take_mark()]
         while self.next_is("or"):
-            self.step()
+            self.taken()
             marks.append(self.take_mark())
         return tuple(marks)
 
@@ -103,7 +103,7 @@ class Reader:
         """The points of a zone, with commas between them."""
         points = [(self.take_ratio(), self.take_ratio())]
         while len(points) < MOST_POINTS and self.next_is(","):
-            self.step()
+            self.taken()
             points.append((self.take_ratio(), self.take_ratio()))
         return tuple(points)
 

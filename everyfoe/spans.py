@@ -78,17 +78,23 @@ def led(row, way):
     return reduced(found)
 
 
+def product_sum(row, items):
+    """The sum of the products of the items of two rows."""
+    return sum([a * b for a, b in zip(row, items)])
+
+
 class Search:
     """Rows at places, looked for from a first one on, those of the shortest
     words first.
 
     ways tells for each place the pairs of a way and of the pairs (letter, next
-    place) that lead so. shows tells for a row the letters that show that it
-    is a wrong one, or None.
+    place) that lead so. marks are pairs of the letters that show that a row is
+    a wrong one, and the row whose products with it then do not add up to 0.
     """
 
-    def __init__(self, place, row, ways):
+    def __init__(self, place, row, ways, marks):
         self.ways = ways
+        self.marks = marks
         self.spans = {name: Span() for name in ways}
         self.waiting = []
         self.put(place, row, ())
@@ -98,13 +104,20 @@ class Search:
         if self.spans[place].takes(row):
             self.waiting.append((place, row, word))
 
-    def wrong_word(self, shows):
-        """The shortest word that leads to a wrong row, or None if all rows
-        that are led to are right ones."""
+    def last_letters(self, row):
+        """The letters that show that a row is a wrong one, or None."""
+        for letters, items in self.marks:
+            if product_sum(row, items) != 0:
+                return letters
+        return None
+
+    def wrong_word(self):
+        """The shortest word that shows a wrong row, or None if all rows that
+        are led to are right ones."""
         at = 0
         while at < len(self.waiting):
             place, row, word = self.waiting[at]
-            letters = shows(row)
+            letters = self.last_letters(row)
             if letters is not None:
                 return word + letters
             for way, steps in self.ways[place]:
@@ -114,6 +127,6 @@ class Search:
             at = at + 1
         return None
 
-    def rows_at(self, place):
-        """The rows of a place, as ratios."""
-        return tuple([tuple([(item, 1) for item in row]) for row in self.spans[place].rows])
+    def all_rows(self):
+        """The rows of all places, a dict."""
+        return {place: self.spans[place].rows for place in self.spans}

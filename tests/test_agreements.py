@@ -246,6 +246,21 @@ class AgreementsTest(CheckCase):
         found = steady(mine, foe, "foe")
         self.assertEqual([(each.low, each.high) for each in found], [((0, 1), (1, 1))])
 
+    def test_a_single_number_between_two_pieces(self):
+        """The best worth is that of no up to 1 / 2, that of big behind it;
+        that of go is below both, but for 1 / 2 itself."""
+        world = World(
+            "mine go no big\nfoe p\nboard a\npay go p -1 0\npay no p 0 0\npay big p -2 0\n"
+            "go go p b:1\ngo no p z:1\ngo big p c:1\nboard b\npay * p 2 0\ngo * p z:1\n"
+            "board c\npay * p 4 0\ngo * p z:1\nboard z\npay * p 0 0\n"
+        )
+        mine = Plan(world, "state s\nplay * * go:1\n")
+        foe = Plan(world, "state s\nplay * * p:1\n", "foe")
+        found = self.check_from_start(mine, foe, "mine")
+        self.assertEqual([(each.low, each.high) for each in found], [((1, 2), (1, 2))])
+        found = steady(mine, foe, "both", everywhere=True)
+        self.assertEqual([(each.low, each.high) for each in found], [((1, 2), (1, 2))])
+
     def test_sides_exchanged(self):
         chance = random.Random(2)
         for _ in range(15):

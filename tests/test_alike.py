@@ -181,6 +181,35 @@ class AlikeTest(CheckCase):
         swapped = Plan(WORLD, both.replace("3/4 d:1/4", "2/4 d:2/4") + lines[0] + lines[1])
         self.assertEqual(self.check_answer(one, swapped), 1)
 
+    def test_long_weights(self):
+        """The same with weights of more and more digits."""
+        rest = "go * * c * c1:1\ngo * * d * d1:1\nplay c1 * c:1\nplay d1 * d:1\ngo c1 * * * c1:1\ngo d1 * * * d1:1\n"
+        one = Plan(WORLD, "state m c1 d1\nplay m * c:1/2 d:1/2\n" + rest)
+        for digits in (3, 15, 50, 200, 700):
+            bottom = 10**digits + 7
+            share = Fraction(bottom // 3, bottom)
+            words_told = []
+            for first in (Fraction(1, 2) + (1 - share) / 4, Fraction(1, 2) - share / 4):
+                words_told.append(f"c:{first} d:{1 - first}")
+            text = f"state h t c1 d1\nstart h:{share} t:{1 - share}\nplay h * {words_told[0]}\nplay t * {words_told[1]}\n"
+            self.assertIsNone(self.check_answer(one, Plan(WORLD, text + rest)))
+            off = text.replace(f"start h:{share} t:{1 - share}", f"start h:{1 - share} t:{share}")
+            self.assertEqual(self.check_answer(one, Plan(WORLD, off + rest)), 1)
+            self.assertIsNone(self.check_pays(one, Plan(WORLD, text + rest), (1, 0)))
+
+    def test_many_states(self):
+        chance = random.Random(4)
+        world = drawn_world(chance, 2, 2, 2)
+        plan = drawn_plan(chance, world, "mine", 24, most=24)
+        lines = plan.text.split("\n")
+        states = list(plan.states)
+        chance.shuffle(states)
+        if not lines[1].startswith("start"):
+            lines.insert(1, f"start {plan.states[0]}:1")
+        other = Plan(world, "\n".join(["state " + " ".join(states), *lines[1:]]))
+        self.check_family(plan, other, alike(plan, other).rows)
+        self.check_family(plan, plan, alike(plan, plan).rows)
+
     def test_built_plans_are_alike(self):
         chance = random.Random(2)
         for _ in range(25):

@@ -172,6 +172,17 @@ class HoldingTest(CheckCase):
         self.assertIsInstance(held, HeldZone)
         self.check_held(held, CROSS, off)
 
+    def test_little_room(self):
+        """Less room than callers leave: more directions are needed."""
+        world = world_of(["a", "b"], ["x", "y"], [[(0, 1), (1, 1)], [(1, 1), (0, 1)]])
+        zone = Zone([(-3, 1), (3, 1), (0, -4)])
+        for ratio in ((1, 10), (1, 300)):
+            grown = zone.grown(ratio)
+            self.check_held(hold_zone(world, grown), world, grown)
+        world = world_of(["a"], ["x"], [[(7, 3)]])
+        grown = Zone([(7, 3)]).grown((1, 1000))
+        self.check_held(hold_zone(world, grown), world, grown)
+
     def test_one_pair_on_the_rim(self):
         world = world_of(["a"], ["x"], [[(1, 1)]])
         for zone in (Zone([(1, 1)]), Zone([(0, 0), (2, 0), (1, 1)]), Zone([(0, 0), (2, 2)])):

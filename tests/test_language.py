@@ -166,6 +166,11 @@ class LanguageTest(unittest.TestCase):
             if isinstance(node.value, str):
                 self.assertNotIn("%", node.value, where)
         for path in FILES:
+            text = path.read_text(encoding="ascii")
+            for node in ast.walk(tree_of(path)):
+                if isinstance(node, ast.JoinedStr):
+                    self.assertNotRegex(ast.get_source_segment(text, node), r"[%\\\\]", f"{path.name}:{node.lineno}")
+        for path in FILES:
             self.assertIsNone(re.search(r"\\[^nt\\'\"]", path.read_text(encoding="ascii")), path.name)
         for where, node in nodes_of(ast.BinOp):
             if isinstance(node.op, ast.Pow):
