@@ -12,7 +12,8 @@ from everyfoe.exact import inverse
 from everyfoe.moduli import next_modulus
 from everyfoe.spans import led, product_sum, whole_items
 
-LIMITS = (1 << 127, 1 << 1023, 1 << 4095)
+SHORT = 1 << 127
+TRIES = 3
 
 
 class Residues:
@@ -146,11 +147,13 @@ def is_shown(place, row, ways, marks, bases):
 def guessed(place, row, ways, marks):
     """The rows of all places, a dict, such that the bases of them show that no
     row that is led to is a wrong one; None if that is not found."""
-    for limit in LIMITS:
+    limit = SHORT
+    for _ in range(TRIES):
         residues = residues_at(place, row, ways, marks, next_modulus(limit))
         if residues is None:
             return None
         bases = {name: basis_of(residues[name]) for name in ways}
         if all([bases[name] is not None for name in ways]) and is_shown(place, row, ways, marks, bases):
             return {name: bases[name].rows for name in ways}
+        limit = limit ** 6
     return None

@@ -6,25 +6,21 @@ from everyfoe.exact import shared_bottom
 
 def sides_of(wedges):
     """The sides of the polygon, each the first direction of its wedge, turned
-    counterclockwise, times an integer above 0.
+    counterclockwise, times an integer above 0: the breadth of both wedges
+    beside it.
 
-    The sides are about as long as the turn at them is great. What the sum of
-    all of them is away from 0 is put to the sides of the four axes.
+    So the sum of all sides is the sum over the wedges of their breadth times
+    both of their directions. The ends of the directions go evenly round a
+    square with the middle 0; therefore it is 0, and the polygon is closed.
     """
     finest = max([wedge.whole for wedge in wedges])
-    ways = []
+    sides = []
     for k in range(len(wedges)):
-        turn = finest // wedges[k - 1].whole + finest // wedges[k].whole
-        grown = finest // wedges[k].whole * turn
-        ways.append([grown * item for item in wedges[k].first()])
-    rest = [sum([way[0] for way in ways]), sum([way[1] for way in ways])]
-    for k in range(len(wedges)):
-        if wedges[k].part == 0:
-            axis = wedges[k].first()
-            for at in (0, 1):
-                if axis[at] * rest[at] < 0:
-                    ways[k][at] = ways[k][at] - rest[at]
-    return [(-way[1], way[0]) for way in ways]
+        breadth = finest // wedges[k - 1].whole + finest // wedges[k].whole
+        way = wedges[k].first()
+        grown = finest // wedges[k].whole * breadth
+        sides.append((-way[1] * grown, way[0] * grown))
+    return sides
 
 
 def rim_of(wedges):

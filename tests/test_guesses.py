@@ -83,8 +83,9 @@ class GuessesTest(unittest.TestCase):
         short = Basis([[1, 0, -1, 0]], [0])
         self.assertFalse(is_shown(0, start, ways, ONES, {0: short}))
         self.assertFalse(is_shown(0, start, ways, ONES, {0: Basis([[0, 1, 0, -1]], [1])}))
-        wrong = Basis([[1, 0, -1, 0], [0, 1, 0, -1], [0, 0, 1, 1]], [0, 1, 2])
+        wrong = Basis([[1, 0, 0, 1], [0, 1, 0, -1], [0, 0, 1, 1]], [0, 1, 2])
         self.assertFalse(is_shown(0, start, ways, ONES, {0: wrong}))
+        self.assertTrue(is_shown(0, start, ways, [], {0: wrong}))
         whole = Basis([[1, 0, 0, -1], [0, 1, 0, -1], [0, 0, 1, -1]], [0, 1, 2])
         self.assertTrue(is_shown(0, start, ways, ONES, {0: whole}))
         two = {0: [(SWAP, [("x", 0), ("y", 1)])], 1: []}
