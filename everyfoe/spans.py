@@ -93,16 +93,11 @@ class Search:
     """
 
     def __init__(self, place, row, ways, marks):
+        self.place = place
+        self.row = row
         self.ways = ways
         self.marks = marks
         self.spans = {name: Span() for name in ways}
-        self.waiting = []
-        self.put(place, row, ())
-
-    def put(self, place, row, word):
-        """Put a row to a place, if it is no sum of multiples there."""
-        if self.spans[place].takes(row):
-            self.waiting.append((place, row, word))
 
     def last_letters(self, row):
         """The letters that show that a row is a wrong one, or None."""
@@ -113,17 +108,26 @@ class Search:
 
     def wrong_word(self):
         """The shortest word that shows a wrong row, or None if all rows that
-        are led to are right ones."""
+        are led to are right ones.
+
+        Each row is looked at as soon as a word leads to it, but put to the
+        span of its place only when its turn comes: that takes much longer.
+        """
+        letters = self.last_letters(self.row)
+        if letters is not None:
+            return letters
+        waiting = [(self.place, self.row, ())]
         at = 0
-        while at < len(self.waiting):
-            place, row, word = self.waiting[at]
-            letters = self.last_letters(row)
-            if letters is not None:
-                return word + letters
-            for way, steps in self.ways[place]:
-                after = led(row, way)
-                for letter, goal in steps:
-                    self.put(goal, after, (*word, letter))
+        while at < len(waiting):
+            place, row, word = waiting[at]
+            if self.spans[place].takes(row):
+                for way, steps in self.ways[place]:
+                    after = led(row, way)
+                    letters = self.last_letters(after)
+                    if letters is not None:
+                        return (*word, steps[0][0], *letters)
+                    goals = {goal: letter for letter, goal in steps}
+                    waiting = waiting + [(goal, after, (*word, goals[goal])) for goal in goals]
             at = at + 1
         return None
 

@@ -228,6 +228,33 @@ class AlikeTest(CheckCase):
         self.assertEqual(self.check_answer(counter(5, True), counter(7, True)), 5)
         self.assertIsNone(self.check_answer(counter(5, False), counter(7, False)))
 
+    def test_layers_that_part_at_the_last_one(self):
+        """Each layer goes on to all states of the next one by drawn chances;
+        one state of the last layer plays another way."""
+        chance = random.Random(5)
+        world = World("mine c d\nfoe c d\nboard a\npay * * 1 0\ngo * c b:1\nboard b\npay * * 0 1\ngo c * a:1/3 b:2/3\n")
+        for layers, width, size in ((12, 2, 9), (8, 3, 10**5), (4, 6, 9), (2, 12, 10**5)):
+            plans = []
+            for odd in (False, False, True):
+                names = [[f"l{k}x{j}" for j in range(width)] for k in range(layers)]
+                lines = ["state " + " ".join(sum(names, [])), "start " + self.shared_out(chance, names[0], size)]
+                for k, row in enumerate(names):
+                    for name in row:
+                        lines.append(f"play {name} * c:1/3 d:2/3")
+                        for move in "cd":
+                            after = self.shared_out(chance, names[(k + 1) % layers], size)
+                            lines.append(f"go {name} * * *.{move} {after}")
+                if odd:
+                    lines.append(f"play {names[-1][0]} b c:1/4 d:3/4")
+                plans.append(Plan(world, "\n".join(lines) + "\n"))
+            self.assertEqual(self.check_answer(plans[0], plans[2]), layers)
+            self.assertIsInstance(alike(plans[0], plans[1]), Alike)
+
+    def shared_out(self, chance, names, size):
+        """Words NAME:CHANCE for all of the names."""
+        parts = [chance.randint(1, size) for _ in names]
+        return " ".join(f"{name}:{Fraction(part, sum(parts))}" for name, part in zip(names, parts))
+
     def test_a_chance_that_never_matters(self):
         text = "state a b\nplay a * c:1\nplay b * d:1\ngo a * d * b:1\n"
         self.assertIsNone(self.check_answer(Plan(WORLD, text), Plan(WORLD, text.replace("b:1", "a:1"))))
