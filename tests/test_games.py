@@ -74,6 +74,17 @@ class GamesTest(CheckCase):
             self.check_level(greatest_least(world, c), world, c, 1)
             self.check_level(least_greatest(world, c), world, c, -1)
 
+    def test_rows_and_columns_alike(self):
+        chance = random.Random(6)
+        for _ in range(60):
+            lines = [[(drawn_ratio(chance, 1), drawn_ratio(chance, 1)) for _ in range(2)] for _ in range(2)]
+            columns = [chance.randrange(2) for _ in range(chance.randint(1, 4))]
+            rows = [chance.randrange(2) for _ in range(chance.randint(1, 4))]
+            world = world_of(list("abcd")[: len(rows)], list("wxyz")[: len(columns)], [[lines[i][j] for j in columns] for i in rows])
+            for c in (*DIRECTIONS, (2, (-1, 3))):
+                self.check_level(greatest_least(world, c), world, c, 1)
+                self.check_level(least_greatest(world, c), world, c, -1)
+
     def test_direction_with_the_other_signs(self):
         chance = random.Random(3)
         for _ in range(20):

@@ -207,6 +207,39 @@ class HoldingTest(CheckCase):
         grown = zone.grown(1)
         self.check_held(hold_zone(world, grown), world, grown)
 
+    def check_any(self, world, zone):
+        found = hold_zone(world, zone)
+        check = {HeldZone: self.check_held, Beaten: self.check_beaten, Touching: self.check_touching}
+        check[type(found)](found, world, zone)
+        return type(found)
+
+    def test_one_move_and_pays_on_one_line(self):
+        chance = random.Random(7)
+        kinds = []
+        for k in range(60):
+            mine, foe = ((1, 4), (4, 1), (3, 3), (1, 1))[k % 4]
+            way = (chance.randint(-3, 3), chance.randint(-3, 3))
+            pays = []
+            for _ in range(mine):
+                steps = [chance.randint(-5, 5) for _ in range(foe)]
+                pays.append([(way[0] * step + 1, (way[1] * step, 2)) for step in steps])
+            world = world_of(list("abcd")[:mine], list("wxyz")[:foe], pays)
+            zone = Zone([(chance.randint(-9, 9), chance.randint(-9, 9)) for _ in range(chance.randint(1, 4))])
+            kinds.append(self.check_any(world, zone))
+            kinds.append(self.check_any(world, Zone([pays[0][0], pays[-1][-1]])))
+            kinds.append(self.check_any(world, Zone([point for row in pays for point in row])))
+            kinds.append(self.check_any(world, Zone([point for row in pays for point in row]).grown(3)))
+        for kind in (HeldZone, Beaten, Touching):
+            self.assertIn(kind, kinds)
+
+    def test_no_room_in_any_direction(self):
+        """One move of mine, and the foe can go to all sides of the zone."""
+        corners = ((3, 0), (0, 4), (-2, 0), (0, (-5, 3)))
+        for chosen in (corners, corners[1:] + ((5, -7),), ((1, 3), (-2, -1), (1, -1))):
+            world = world_of(["a"], list("wxyz")[: len(chosen)], [list(chosen)])
+            for zone in (Zone([(0, 0)]), Zone([((1, 9), 0), (0, (1, 9))]), Zone([(0, 0), ((1, 5), 0), (0, (-1, 5))])):
+                self.assertEqual(self.check_any(world, zone), Beaten)
+
     def test_a_place_that_is_no_ratio(self):
         """The rows of pays add up to 0, so the point 0 is held at each move;
         all of them are multiples of one at the root of 1 / 2 alone."""
