@@ -261,6 +261,50 @@ class AgreementsTest(CheckCase):
         found = steady(mine, foe, "both", everywhere=True)
         self.assertEqual([(each.low, each.high) for each in found], [((1, 2), (1, 2))])
 
+    def test_what_both_sets_have_in_common(self):
+        """Each side does not gain where the polynomial of its own pays is not
+        below 0: by leaving in the first round it gets 0 for ever."""
+        zero, one, third, half = (0, 1), (1, 1), (1, 3), (1, 2)
+        up = ("-1/2", "1", "0")
+        down = ("1/3", "-1", "0")
+        outer = ("2", "-9", "9")
+        inner = ("-2", "9", "-9")
+        cases = (
+            (up, down, []),
+            (down, up, []),
+            (up, up, [(half, one)]),
+            (outer, inner, [(third, third), ((2, 3), (2, 3))]),
+            (inner, down, [(third, third)]),
+            (outer, up, [((2, 3), one)]),
+            (down, outer, [(zero, third)]),
+            (outer, outer, [(zero, third), ((2, 3), one)]),
+            (inner, up, [(half, (2, 3))]),
+            (("1", "0", "-2"), outer, [(zero, third), ((2, 3), (1, 0, -2))]),
+        )
+        for mine, foe, expected in cases:
+            plan, other = self.side_by_side(mine, foe)
+            for everywhere in (False, True):
+                found = steady(plan, other, "both", everywhere=everywhere)
+                self.check_stretches(found)
+                self.assertEqual(len(found), len(expected))
+                for each, (low, high) in zip(found, expected):
+                    self.assertEqual(each.low, low)
+                    if len(high) == 2:
+                        self.assertEqual(each.high, high)
+                    else:
+                        self.assertEqual(sign_at(high, each.high), 0)
+
+    def side_by_side(self, mine, foe):
+        """Plans whose pays in the first three rounds are these."""
+        lines = ["mine go no", "foe go no"]
+        for k in range(3):
+            lines += [f"board b{k}", f"pay * * {mine[k]} {foe[k]}", f"go * * {('b1', 'b2', 'z')[k]}:1"]
+            if k == 0:
+                lines += ["pay no * 0 0", "pay * no 0 0", "go no * z:1", "go * no z:1"]
+        world = World("\n".join([*lines, "board z", "pay * * 0 0"]) + "\n")
+        text = "state s\nplay * * go:1\n"
+        return Plan(world, text), Plan(world, text, "foe")
+
     def test_sides_exchanged(self):
         chance = random.Random(2)
         for _ in range(15):
